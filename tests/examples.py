@@ -1,0 +1,298 @@
+"""Laboratories, tasks and wrong values that several tests use, and literal readings of the document."""
+
+import random
+from itertools import combinations, product
+
+from washedarms.forms import start
+
+# The least laboratory and the greatest one.
+LEAST_LAB = (((0,),), (), 1, 1, 0)
+GREAT_LAB = (
+    ((1, 2, 3, 4, 5, 6, 7, 0),) + tuple(
+        (None, (state + 1) % 8, None, state, 0, None, 7, None) for state in range(1, 8)),
+    ((tuple(((0,), (0, 7), (0, 3, 7))[state % 3] for state in range(8)), 1, 1),
+     (tuple((state,) for state in range(8)), 6, 6),
+     (tuple((0,) for _ in range(8)), 1, 6)),
+    3, 3, 4)
+# The laboratory of the examples under "Washing".
+DOC_LAB = (((1, 2), (1, None), (None, 2)), ((((0,), (0, 1), (0,)), 1, 3),), 2, 2, 2)
+# The laboratory of the example under "Moves, ticks, runs and charts", and its TASK.
+RUN_LAB = (((1, 0), (1, None)), ((((0,), (0,)), 1, 1),), 1, 1, 0)
+RUN_TASK = (RUN_LAB, ((((0, (0,), (), 1, 2), (1, (0,), (), 1, 1)), (None, 1)),))
+
+STEP = (0, (0, 1), (0,), 1, 2)
+OTHER_STEP = (1, (1,), (0, 1), 2, 3)
+TASK = (DOC_LAB, (((STEP, OTHER_STEP), (None, 1)), ((), ()), ((OTHER_STEP, STEP, STEP), (None, None, 0))))
+GREAT_STEP = (7, (0, 1, 2), (0, 1, 2, 3), 6, 6)
+GREAT_TASK = (GREAT_LAB, (((GREAT_STEP, (0, (2,), (), 1, 1), (1, (0,), (3,), 1, 6), (4, (0, 1, 2), (), 2, 6)),
+                           (None, 6, 0, None)),) * 4)
+# A TASK of more than 10 ** 12 STANDINGS.
+HUGE_LAB = (((0,),) * 8, ((((0,),) * 8, 1, 6),) * 3, 3, 3, 0)
+HUGE_STEP = (0, (0, 1, 2), (), 1, 6)
+HUGE_TASK = (HUGE_LAB, (((HUGE_STEP,) * 4, (None, 6, 6, 6)),) * 4)
+EMPTY_TASK = (LEAST_LAB, ())
+
+
+class Odd:
+    """Equal to everything, so that comparing ahead of looking at the kind is found out."""
+
+    def __eq__(self, other):
+        return True
+
+    def __ne__(self, other):
+        return False
+
+    def __hash__(self):
+        return 0
+
+    def __lt__(self, other):
+        return True
+
+    __gt__ = __le__ = __ge__ = __lt__
+
+
+# None of them is right anywhere where an integer or a tuple of the document is asked for.
+NEVER_RIGHT = (True, False, "0", "", [], [0], {}, b"0", "step", 10 ** 40, -10 ** 40, 10 ** 900, object(), Odd(), -2)
+NO_TUPLES = (None, True, 0, -1, "ab", "", [], [1, 2], {}, {1: 2}, b"ab", object(), Odd())
+
+
+def places(value, place=()):
+    """All places in nested tuples, a thing ahead of its parts, from the left."""
+    found = [place]
+    if type(value) is tuple:
+        for index, part in enumerate(value):
+            found += places(part, place + (index,))
+    return found
+
+
+def at(value, place):
+    """What stands at a place of nested tuples."""
+    for index in place:
+        value = value[index]
+    return value
+
+
+def changed(value, place, new):
+    """Nested tuples with another thing at a place."""
+    if not place:
+        return new
+    index = place[0]
+    return value[:index] + (changed(value[index], place[1:], new),) + value[index + 1:]
+
+
+def random_lab(rng, states=None, stuffs=None, washes=None, tools=None, arms=None, zones=None):
+    """Some LAB."""
+    states = rng.randint(1, 4) if states is None else states
+    stuffs = rng.randint(1, 3) if stuffs is None else stuffs
+    washes = rng.randint(0, 3) if washes is None else washes
+    meets = tuple(
+        tuple(None if state > 0 and rng.random() < 0.4 else rng.randrange(states) for _ in range(stuffs))
+        for state in range(states))
+    rows = []
+    for _ in range(washes):
+        after = tuple(
+            tuple(sorted(rng.sample(range(states), rng.randint(1, min(2, states))))) for _ in range(states))
+        low = rng.randint(1, 2)
+        rows.append((after, low, rng.randint(low, 3)))
+    return (meets, tuple(rows), tools or rng.randint(1, 2), arms or rng.randint(1, 2),
+            rng.randint(0, 2) if zones is None else zones)
+
+
+def random_sample(rng, lab, steps=None):
+    """Some SAMPLE of a LAB."""
+    steps = rng.randint(0, 2) if steps is None else steps
+    rows, windows = [], []
+    for number in range(steps):
+        low = rng.randint(1, 2)
+        tools = tuple(sorted(rng.sample(range(lab[2]), rng.randint(1, lab[2]))))
+        zones = tuple(sorted(rng.sample(range(lab[4]), rng.randint(0, min(1, lab[4])))))
+        rows.append((rng.randrange(len(lab[0][0])), tools, zones, low, rng.randint(low, 3)))
+        windows.append(rng.choice((None, 0, 1, 2)) if number else None)
+    return (tuple(rows), tuple(windows))
+
+
+def random_task(rng, samples=None, steps=None, **lab):
+    """Some TASK."""
+    one = random_lab(rng, **lab)
+    many = rng.randint(0, 2) if samples is None else samples
+    return (one, tuple(random_sample(rng, one, steps) for _ in range(many)))
+
+
+def random_tasks(seed, many, **kinds):
+    """Some TASKS, the same ones for a seed."""
+    rng = random.Random(seed)
+    return [random_task(rng, **kinds) for _ in range(many)]
+
+
+def random_labs(seed, many, **kinds):
+    """Some LABS, the same ones for a seed."""
+    rng = random.Random(seed)
+    return [random_lab(rng, **kinds) for _ in range(many)]
+
+
+def literal_positions(sample):
+    """POSITIONS, by the words of the document."""
+    steps, windows = sample
+    found = []
+    for done in range(len(steps) + 1):
+        for waited in range(8):
+            counted = 1 <= done <= len(steps) - 1 and windows[done] is not None
+            if waited == 0 or (counted and waited <= windows[done] + 1):
+                found.append((done, waited))
+    return found
+
+
+def literal_jobs(task):
+    """All things that may look like a JOB in a TASK."""
+    lab, samples = task
+    return [(), ("out",)] + [
+        (word, which, gone) for word, many in (("step", len(samples)), ("wash", len(lab[1])))
+        for which in range(many) for gone in range(1, 7)]
+
+
+def literal_stands(task, rests, pairs):
+    """Whether POSITIONS and pairs of states and things like JOBS are a STANDING, by [13] as a whole."""
+    lab, samples = task
+    running = [(tool, state, job) for tool, (state, job) in enumerate(pairs) if len(job) == 3]
+    steps = [(tool, state, job[1], job[2]) for tool, state, job in running if job[0] == "step"]
+    if len(running) > lab[3] or len({sample for _, _, sample, _ in steps}) < len(steps):
+        return False
+    zones = []
+    for tool, state, sample, gone in steps:
+        done, waited = rests[sample]
+        if done == len(samples[sample][0]) or waited != 0:
+            return False
+        stuff, tools, used, low, high = samples[sample][0][done]
+        if tool not in tools or lab[0][state][stuff] is None or gone > high - 1:
+            return False
+        zones += used
+    if len(set(zones)) < len(zones):
+        return False
+    return all(job[2] <= lab[1][job[1]][2] - 1 for _, _, job in running if job[0] == "wash")
+
+
+def literal_standings(task):
+    """All STANDINGS of a small TASK, ascending."""
+    lab, samples = task
+    pairs = [(state, job) for state in range(len(lab[0])) for job in literal_jobs(task)]
+    return sorted(
+        (rests, row) for rests in product(*[literal_positions(sample) for sample in samples])
+        for row in product(pairs, repeat=lab[2]) if literal_stands(task, rests, row))
+
+
+def literal_broken(task, standing):
+    """Whether a STANDING is broken, by [13]."""
+    return any(1 <= done <= len(steps) - 1 and windows[done] is not None and waited == windows[done] + 1
+               for (steps, windows), (done, waited) in zip(task[1], standing[0]))
+
+
+def literal_done(task, standing):
+    """Whether a STANDING is done, by [13]."""
+    return all(done == len(steps) for (steps, windows), (done, waited) in zip(task[1], standing[0]))
+
+
+def literal_moves(task, standing):
+    """All MOVES, by [14]: of all rows of STARTS those that may stand."""
+    lab, samples = task
+    triples = [(tool, word, which) for tool in range(lab[2])
+               for word, many in (("step", len(samples)), ("wash", len(lab[1]))) for which in range(many)]
+    return tuple(sorted(
+        move for many in range(lab[2] + 1) for move in combinations(triples, many)
+        if literal_is_move(task, standing, move)))
+
+
+def literal_is_move(task, standing, move):
+    """Whether triples of existing numbers, ascending, are a MOVE, by [14]."""
+    lab, samples = task
+    running = [job for _, job in standing[1] if len(job) == 3]
+    on = [job[1] for job in running if job[0] == "step"]
+    begun = [which for _, word, which in move if word == "step"]
+    if len({tool for tool, _, _ in move}) < len(move) or len(running) + len(move) > lab[3]:
+        return False
+    if any(standing[1][tool][1] != () for tool, _, _ in move) or len(set(on + begun)) < len(on + begun):
+        return False
+    if any(standing[0][sample][0] == len(samples[sample][0]) for sample in begun):
+        return False
+    for tool, word, which in move:
+        if word == "step":
+            step = samples[which][0][standing[0][which][0]]
+            if tool not in step[1] or lab[0][standing[1][tool][0]][step[0]] is None:
+                return False
+    zones = [zone for sample in on + begun for zone in samples[sample][0][standing[0][sample][0]][2]]
+    return len(set(zones)) == len(zones)
+
+
+def literal_ticks(task, standing, move):
+    """All pairs of a LATENESS of a MOVE and the STANDING it leads to, by [15], ascending."""
+    lab, samples = task
+    rests = [list(rest) for rest in standing[0]]
+    pairs = [[state, list(job)] for state, job in standing[1]]
+    for tool, word, which in move:
+        pairs[tool][1] = [word, which, 0]
+        if word == "step":
+            rests[which][1] = 0
+    on = [job[1] for _, job in pairs if job[:1] == ["step"]]
+    for sample, (steps, windows) in enumerate(samples):
+        done = rests[sample][0]
+        if sample not in on and 1 <= done <= len(steps) - 1 and windows[done] is not None:
+            rests[sample][1] += 1
+    choices = []
+    for tool, (state, job) in enumerate(pairs):
+        if len(job) != 3:
+            choices.append([None])
+            continue
+        job[2] += 1
+        if job[0] == "step":
+            stuff, _, _, low, high = samples[job[1]][0][rests[job[1]][0]]
+            results = [lab[0][state][stuff]]
+        else:
+            after, low, high = lab[1][job[1]]
+            results = list(after[state])
+        choices.append((results if job[2] >= low else []) + ([None] if job[2] < high else []))
+    found = []
+    for row in product(*choices):
+        behind_rests = [tuple(rest) for rest in rests]
+        behind_pairs = [(state, tuple(job)) for state, job in pairs]
+        for tool, result in enumerate(row):
+            if result is not None:
+                job = pairs[tool][1]
+                if job[0] == "step":
+                    behind_rests[job[1]] = (rests[job[1]][0] + 1, 0)
+                behind_pairs[tool] = (result, ())
+        lateness = tuple((tool, result) for tool, result in enumerate(row) if result is not None)
+        found.append((lateness, (tuple(behind_rests), tuple(behind_pairs))))
+    return sorted(found)
+
+
+def literal_web(task, standing):
+    """The STANDINGS that come from one, each with all that its MOVES and LATENESSES lead to."""
+    web = {}
+    ahead = [standing]
+    while ahead:
+        one = ahead.pop()
+        if one in web:
+            continue
+        web[one] = []
+        if not literal_done(task, one) and not literal_broken(task, one):
+            for move in literal_moves(task, one):
+                behind = [other for _, other in literal_ticks(task, one, move)]
+                web[one].append(behind)
+                ahead += behind
+    return web
+
+
+def literal_soonest(task, standing=None):
+    """SOONEST of a STANDING, or of the START, by [61]: None if there is none."""
+    standing = start(task) if standing is None else standing
+    web = literal_web(task, standing)
+    ranks = {one: 0 for one in web if literal_done(task, one)}
+    rank = 0
+    while standing not in ranks:
+        rank += 1
+        new = [one for one in web if one not in ranks
+               and any(all(other in ranks for other in behind) for behind in web[one])]
+        if not new:
+            return None
+        for one in new:
+            ranks[one] = rank
+    return ranks[standing]

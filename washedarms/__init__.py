@@ -1,0 +1,1 @@
+"""Washedarms: arms that share tools which must be washed."""
