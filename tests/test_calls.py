@@ -1,0 +1,174 @@
+"""[0] to [3]: what holds of all functions: names, places, plain values, unchanged arguments."""
+
+import copy
+import importlib
+import inspect
+import os
+import unittest
+
+from tests.examples import DOC_LAB, GREAT_TASK, RUN_TASK, TASK
+from tests.test_charts import CHART
+from tests.test_runs import RUN
+from washedarms.forms import start
+
+START = start(RUN_TASK)
+LACK = ((1, 2, 1, ("stuff", 1)),)
+EVEN_TASK = ((((0,),), (), 2, 2, 0), ((((0, (0, 1), (), 1, 2),), (None,)),))
+# Module, function, parameters, and some rows of right arguments.
+CALLS = (
+    ("labs", "lab_fault", "value", (([1],), (DOC_LAB,))),
+    ("labs", "is_lab", "value", (([1],), (DOC_LAB,))),
+    ("labs", "need_lab", "lab", ((DOC_LAB,),)),
+    ("labs", "need_state", "lab state", ((DOC_LAB, 2),)),
+    ("tasks", "task_fault", "value", (([1],), (TASK,))),
+    ("tasks", "is_task", "value", (([1],), (TASK,))),
+    ("tasks", "need_task", "task", ((TASK,),)),
+    ("tasks", "next_step", "task standing sample", ((RUN_TASK, START, 0),)),
+    ("forms", "standing_fault", "task value", ((RUN_TASK, START), (RUN_TASK, [START]))),
+    ("forms", "is_standing", "task value", ((RUN_TASK, START), (RUN_TASK, {}))),
+    ("forms", "need_standing", "task value", ((RUN_TASK, START),)),
+    ("forms", "start", "task", ((TASK,),)),
+    ("forms", "positions", "sample", ((TASK[1][2],),)),
+    ("forms", "pairs_for", "task samples ahead", ((TASK, ((0, 0),) * 3, ((1, ("wash", 0, 1)),)),)),
+    ("numbering", "standings_number", "task", ((TASK,),)),
+    ("numbering", "standing_at", "task number", ((TASK, 3000),)),
+    ("numbering", "number_of_standing", "task standing", ((TASK, start(TASK)),)),
+    ("goodness", "is_as_good", "lab state other", ((DOC_LAB, 0, 1),)),
+    ("goodness", "as_good_pairs", "lab", ((DOC_LAB,),)),
+    ("goodness", "is_simulation", "lab pairs", ((DOC_LAB, ()), (DOC_LAB, [(0, 1)]))),
+    ("goodness", "lack", "lab state other", ((DOC_LAB, 1, 2),)),
+    ("goodness", "lack_fault", "lab state other rows", ((DOC_LAB, 1, 2, LACK), (DOC_LAB, 1, 2, [LACK[0]]))),
+    ("needless", "needless_washes", "lab", ((DOC_LAB,),)),
+    ("needless", "lab_without", "lab washes", ((DOC_LAB, (0,)),)),
+    ("needless", "lab_with_worst", "lab", ((DOC_LAB,),)),
+    ("oneform", "like_classes", "lab", ((DOC_LAB,),)),
+    ("oneform", "like_rounds", "lab", ((DOC_LAB,),)),
+    ("oneform", "one_form", "lab", ((DOC_LAB,),)),
+    ("oneform", "first_unlike_round", "lab other", ((DOC_LAB, DOC_LAB),)),
+    ("tasktexts", "task_text", "task", ((TASK,),)),
+    ("tasktexts", "read_task", "text", (("lab 1 1 1 1 0\nstate 0",),)),
+    ("tasktexts", "task_text_fault", "text", (("lab",),)),
+    ("standingtexts", "standing_text", "task standing", ((RUN_TASK, START),)),
+    ("standingtexts", "read_standing", "task text", ((RUN_TASK, "sample 0 0\ntool 1 idle"),)),
+    ("standingtexts", "standing_text_fault", "task text", ((RUN_TASK, "sample 0"),)),
+    ("touches", "row_end", "lab state stuffs", ((DOC_LAB, 0, (1, 1)),)),
+    ("touches", "row_stop", "lab state stuffs", ((DOC_LAB, 0, (1, 0)),)),
+    ("courses", "deeds", "lab state lot", ((DOC_LAB, 0, (1, 1)),)),
+    ("courses", "washing", "lab state lot", ((DOC_LAB, 2, (1, 1)),)),
+    ("courses", "course_plan", "lab state lot", ((DOC_LAB, 2, (1, 1)),)),
+    ("courses", "course_plan_fault", "lab paper", ((DOC_LAB, ()), (DOC_LAB, [1]))),
+    ("courses", "is_course_plan", "lab state lot ticks paper", ((DOC_LAB, 2, (1, 1), 3, [()]),)),
+    ("bars", "course_bar", "lab state lot", ((DOC_LAB, 2, (1, 1)),)),
+    ("bars", "course_bar_fault", "lab paper", ((DOC_LAB, ()), (DOC_LAB, [1]))),
+    ("bars", "is_course_bar", "lab state lot ticks paper", ((DOC_LAB, 2, (1, 1), None, [()]),)),
+    ("likeness", "state_classes", "lab", ((DOC_LAB,),)),
+    ("likeness", "is_like", "lab partition", ((DOC_LAB, (0, 1, 2)), (DOC_LAB, [0, 1, 2]))),
+    ("likeness", "merged", "lab", ((DOC_LAB,),)),
+    ("likeness", "parting_paper", "lab one other", ((DOC_LAB, 2, 1),)),
+    ("likeness", "paper_fault", "lab one other rows", ((DOC_LAB, 2, 1, LACK), (DOC_LAB, 2, 1, [LACK]))),
+    ("plainlots", "follows", "lab", ((DOC_LAB,),)),
+    ("plainlots", "is_plain", "lab", ((DOC_LAB,),)),
+    ("plainlots", "lot_chains", "lab lot", ((DOC_LAB, (2, 3)),)),
+    ("plainlots", "unfollowed", "lab lot", ((DOC_LAB, (2, 3)),)),
+    ("plainlots", "width", "lab lot", ((DOC_LAB, (2, 3)),)),
+    ("plainlots", "is_chains", "lab lot paper", ((DOC_LAB, (0, 1), (((1, 0),),)), (DOC_LAB, (0, 1), [[(1, 0)]]))),
+    ("plainlots", "is_unfollowed", "lab lot paper", ((DOC_LAB, (0, 1), ((1, 0),)), (DOC_LAB, (0, 1), [(1, 0)]))),
+    ("plainlots", "fewest_washes", "lab lot tools", ((DOC_LAB, (2, 3), 2),)),
+    ("dealings", "dealing_late", "task dealing", ((EVEN_TASK, (1,)),)),
+    ("dealings", "least_dealing", "task", ((EVEN_TASK,),)),
+    ("freerows", "free_row_count", "lab state length", ((DOC_LAB, 0, 3),)),
+    ("freerows", "free_row_at", "lab state length number", ((DOC_LAB, 0, 3, 1),)),
+    ("freerows", "free_row_place", "lab state stuffs", ((DOC_LAB, 0, (1, 1, 1)),)),
+    ("standings", "is_done", "task standing", ((RUN_TASK, START),)),
+    ("standings", "is_broken", "task standing", ((RUN_TASK, START),)),
+    ("standings", "is_live", "task standing", ((RUN_TASK, START),)),
+    ("standings", "window_of", "task standing sample", ((RUN_TASK, START, 0),)),
+    ("standings", "in_use", "task standing", ((RUN_TASK, START),)),
+    ("moves", "moves_of", "task standing", ((TASK, start(TASK)),)),
+    ("moves", "is_move", "task standing move", ((RUN_TASK, START, ()), (RUN_TASK, START, [()]))),
+    ("ticks", "latenesses_of", "task standing move", ((RUN_TASK, START, ((0, "step", 0),)),)),
+    ("ticks", "is_lateness", "task standing move lateness", ((RUN_TASK, START, (), ()), (RUN_TASK, START, (), [()]))),
+    ("ticks", "after", "task standing move lateness", ((RUN_TASK, START, ((0, "step", 0),), ((0, 1),)),)),
+    ("runs", "played", "task standing run", ((RUN_TASK, START, RUN),)),
+    ("charts", "chart_of", "task run", ((RUN_TASK, RUN),)),
+    ("charts", "standing_of_chart", "task ticks chart", ((RUN_TASK, 4, CHART),)),
+    ("charts", "run_of_chart", "task ticks chart", ((RUN_TASK, 4, CHART),)),
+    ("chartchecks", "chart_fault", "task ticks chart", ((RUN_TASK, 4, CHART), (RUN_TASK, 4, [CHART]))),
+)
+
+
+def is_plain_value(value):
+    """Whether a value is told as [1] says: of plain kinds throughout."""
+    if type(value) is tuple:
+        return all(is_plain_value(part) for part in value)
+    return type(value) in (int, str, bool, type(None))
+
+
+class CallsTest(unittest.TestCase):
+    def test_names_and_parameters(self):
+        for module, name, words, _ in CALLS:
+            call = getattr(importlib.import_module("washedarms." + module), name)
+            self.assertTrue(inspect.isfunction(call))
+            self.assertEqual(call.__module__, "washedarms." + module)
+            parameters = inspect.signature(call).parameters.values()
+            self.assertEqual([one.name for one in parameters], words.split(), name)
+            self.assertTrue(all(one.kind == one.POSITIONAL_OR_KEYWORD and one.default is one.empty for one in parameters))
+
+    def test_by_place_and_by_name(self):
+        for module, name, words, rows in CALLS:
+            call = getattr(importlib.import_module("washedarms." + module), name)
+            for row in rows:
+                kept = copy.deepcopy(row)
+                told = call(*row)
+                names = words.split()
+                self.assertEqual(call(**dict(zip(names, row))), told)
+                self.assertEqual(call(*row[:1], **dict(zip(names[1:], row[1:]))), told)
+                self.assertEqual(call(**dict(reversed(list(zip(names, row))))), told)
+                self.assertEqual(call(*kept), told)
+                self.assertEqual(row, kept)
+                self.assertTrue(is_plain_value(told), (name, told))
+
+    def test_what_was_told_may_be_passed(self):
+        many = importlib.import_module("washedarms.numbering").standings_number(GREAT_TASK)
+        self.assertIs(type(many), int)
+        text = importlib.import_module("washedarms.tasktexts").task_text(GREAT_TASK)
+        self.assertEqual(importlib.import_module("washedarms.tasktexts").read_task(text), GREAT_TASK)
+
+    def test_truths(self):
+        for module, name, _, rows in CALLS:
+            if name.startswith("is_"):
+                call = getattr(importlib.import_module("washedarms." + module), name)
+                for row in rows:
+                    self.assertIs(type(call(*row)), bool, name)
+
+    def test_deeply_nested_values(self):
+        deep = ()
+        for _ in range(60):
+            deep = (deep,)
+        for module, name, words, rows in CALLS:
+            if words.split()[-1] in ("value", "pairs", "rows", "paper", "partition", "move", "lateness", "chart"):
+                call = getattr(importlib.import_module("washedarms." + module), name)
+                if len(rows) == 2:
+                    self.assertIn(type(call(*rows[0][:-1], deep)), (bool, tuple, int, str))
+
+
+class PackageTest(unittest.TestCase):
+    def test_the_folder(self):
+        folder = os.path.join(os.path.dirname(os.path.dirname(os.path.abspath(__file__))), "washedarms")
+        files = [name for name in os.listdir(folder) if name != "__pycache__"]
+        self.assertIn("__init__.py", files)
+        for name in files:
+            self.assertTrue(name.endswith(".py"), name)
+            with open(os.path.join(folder, name), encoding="ascii") as file:
+                text = file.read()
+            lines = text.split("\n")
+            self.assertLess(len(lines), 401, name)
+            self.assertLess(max(len(line) for line in lines), 121, name)
+            for line in lines:
+                self.assertFalse(line.startswith("import "), line)
+                if line.startswith("from ") and " import " in line:
+                    self.assertTrue(line.startswith("from washedarms."), line)
+
+
+if __name__ == "__main__":
+    unittest.main()
