@@ -1,6 +1,7 @@
 """Laboratories, tasks and wrong values that several tests use, and literal readings of the document."""
 
 import random
+from functools import lru_cache
 from itertools import combinations, product
 
 from washedarms.forms import start
@@ -296,3 +297,71 @@ def literal_soonest(task, standing=None):
         for one in new:
             ranks[one] = rank
     return ranks[standing]
+
+
+def random_run(rng, task, standing, rows):
+    """Some RUN of at most so many rows, and its STANDINGS."""
+    run, found = (), (standing,)
+    while len(run) < rows and not literal_broken(task, standing):
+        move = rng.choice(literal_moves(task, standing))
+        late, standing = rng.choice(literal_ticks(task, standing, move))
+        run += ((move, late),)
+        found += (standing,)
+    return run, found
+
+
+# A RUN of RUN_TASK from the START, its STANDINGS and its CHART.
+RUN = ((((0, "step", 0),), ()), ((), ((0, 1),)), (((0, "wash", 0),), ((0, 0),)), (((0, "step", 0),), ((0, 0),)))
+RUN_STANDINGS = ((((0, 0),), ((0, ()),)), (((0, 0),), ((0, ("step", 0, 1)),)), (((1, 0),), ((1, ()),)),
+                 (((1, 1),), ((0, ()),)), (((2, 0),), ((0, ()),)))
+RUN_CHART = ((0, 0, "step", 0, 2, 1), (2, 0, "wash", 0, 3, 0), (3, 0, "step", 0, 4, 0))
+# No LOT of DOC_LAB, which has two stuffs.
+WRONG_LOTS = NEVER_RIGHT + (None, 0, (), (1,), (1, 1, 1), [1, 1], (13, 0), (0, 13), (-1, 1), (1, -1), (12, 13), (True,
+        0),
+                            (0, False), (None, 0), (0, "1"), (0, (1,)), (10 ** 900, 0))
+# No tuple of stuffs of DOC_LAB, which has the stuffs 0 and 1.
+WRONG_ROWS = NEVER_RIGHT + (None, 0, [0], (2,), (-1,), (0, 2), (0, 1, -1), (True,), (None,), (0, "1"), ((0,),), (0,
+        False),
+                            (10 ** 900,))
+# For washing as a game: laboratories, and LOTS small enough to try all ways.
+GAME_LABS = [DOC_LAB] + random_labs(30, 12, states=3, stuffs=2, washes=1) + random_labs(
+    31, 12, states=3, stuffs=2, washes=2)
+GAME_LOTS = ((0, 0), (1, 0), (0, 1), (1, 1), (2, 1), (0, 2))
+
+
+def nodes():
+    """Triples of a LAB, a state and a LOT."""
+    return [(lab, state, lot) for lab in GAME_LABS for state in range(len(lab[0])) for lot in GAME_LOTS]
+
+
+def literal_deeds(lab, state, lot):
+    """The DEEDS at a NODE: of each its cost and the NODES that it leads to."""
+    found = {}
+    if sum(lot):
+        for stuff, uses in enumerate(lot):
+            if uses and lab[0][state][stuff] is not None:
+                less = tuple(many - (other == stuff) for other, many in enumerate(lot))
+                found[0, stuff] = (0, [(lab[0][state][stuff], less)])
+        for number, (after, _, high) in enumerate(lab[1]):
+            found[1, number] = (high, [(one, lot) for one in after[state]])
+    return found
+
+
+@lru_cache(maxsize=None)
+def keeps_to(lab, state, lot, ticks):
+    """Whether some way of choosing surely keeps to so many ticks."""
+    if ticks < 0:
+        return False
+    return sum(lot) == 0 or any(
+        all(keeps_to(lab, *node, ticks - cost) for node in behind)
+        for cost, behind in literal_deeds(lab, state, lot).values())
+
+
+@lru_cache(maxsize=None)
+def literal_washing(lab, state, lot):
+    """WASHING: each touch needs at most one wash for each other state, so the look can be ended."""
+    most = sum(lot) * len(lab[0]) * 3
+    for ticks in range(most + 1):
+        if keeps_to(lab, state, lot, ticks):
+            return ticks
+    return None

@@ -2,9 +2,8 @@
 
 import unittest
 
-from tests.examples import DOC_LAB, LEAST_LAB, NEVER_RIGHT, NO_TUPLES, changed, places
-from tests.games import literal_deeds, literal_washing, nodes
-from tests.test_courses import WRONG_LOTS
+from tests.examples import (
+    DOC_LAB, LEAST_LAB, NEVER_RIGHT, NO_TUPLES, WRONG_LOTS, changed, literal_deeds, literal_washing, nodes, places)
 from washedarms.bars import course_bar, course_bar_fault, is_course_bar
 from washedarms.courses import washing
 from washedarms.errors import BadLab, BadLot, BadState, BadTicks, TooGreat
@@ -129,11 +128,19 @@ class BarTest(unittest.TestCase):
             self.assertEqual(course_bar_fault(DOC_LAB, (BAR[0], row, BAR[2])), (1, "form"), row)
             self.assertEqual(course_bar_fault(DOC_LAB, (BAR[2], row)), (1, "form"), row)
 
+    def test_answers_of_several_washes(self):
+        lab = (DOC_LAB[0], DOC_LAB[1] + ((((0,), (1, 2), (2,)), 2, 5),)) + DOC_LAB[2:]
+        for answers, right in (((0, 2), True), ((1, 1), True), ((0, 0), False), ((2, 2), False), ((0, 2, 0), False),
+                               ((0,), False), ((0, True), False), ((False, 2), False)):
+            fault = course_bar_fault(lab, ((1, (0, 1), 1, answers),))
+            self.assertEqual(fault == (0, "form"), not right)
+
     def test_order_and_rules(self):
         one, two, three = BAR
         for paper, fault in (((two, one), (1, "order")), ((one, one), (1, "order")), ((one, three, two), (2, "order")),
                              ((one, two, two[:2] + (1, (0,))), (2, "order")), ((three,), (0, "touch")),
-                             ((changed(two, (2,), 2), three), (1, "touch")), ((changed(two, (2,), None), three), (0, "answer")),
+                             ((changed(two, (2,), 2), three), (1, "touch")), ((changed(two, (2,), None), three), (0,
+                                     "answer")),
                              ((two, changed(three, (2,), None)), (1, "touch")),
                              ((changed(two, (2,), 4), three), (0, "answer")), ((changed(two, (2,), 2),), None),
                              ((changed(one, (3,), (0,)),), (0, "answer")), ((changed(one, (2,), 9),), None),

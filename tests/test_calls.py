@@ -6,9 +6,7 @@ import inspect
 import os
 import unittest
 
-from tests.examples import DOC_LAB, GREAT_TASK, RUN_TASK, TASK
-from tests.test_charts import CHART
-from tests.test_runs import RUN
+from tests.examples import DOC_LAB, GREAT_TASK, RUN, RUN_CHART, RUN_TASK, TASK
 from washedarms.forms import start
 
 START = start(RUN_TASK)
@@ -91,9 +89,9 @@ CALLS = (
     ("ticks", "after", "task standing move lateness", ((RUN_TASK, START, ((0, "step", 0),), ((0, 1),)),)),
     ("runs", "played", "task standing run", ((RUN_TASK, START, RUN),)),
     ("charts", "chart_of", "task run", ((RUN_TASK, RUN),)),
-    ("charts", "standing_of_chart", "task ticks chart", ((RUN_TASK, 4, CHART),)),
-    ("charts", "run_of_chart", "task ticks chart", ((RUN_TASK, 4, CHART),)),
-    ("chartchecks", "chart_fault", "task ticks chart", ((RUN_TASK, 4, CHART), (RUN_TASK, 4, [CHART]))),
+    ("charts", "standing_of_chart", "task ticks chart", ((RUN_TASK, 4, RUN_CHART),)),
+    ("charts", "run_of_chart", "task ticks chart", ((RUN_TASK, 4, RUN_CHART),)),
+    ("chartchecks", "chart_fault", "task ticks chart", ((RUN_TASK, 4, RUN_CHART), (RUN_TASK, 4, [RUN_CHART]))),
 )
 
 
@@ -112,7 +110,8 @@ class CallsTest(unittest.TestCase):
             self.assertEqual(call.__module__, "washedarms." + module)
             parameters = inspect.signature(call).parameters.values()
             self.assertEqual([one.name for one in parameters], words.split(), name)
-            self.assertTrue(all(one.kind == one.POSITIONAL_OR_KEYWORD and one.default is one.empty for one in parameters))
+            self.assertTrue(all(one.kind == one.POSITIONAL_OR_KEYWORD and one.default is one.empty
+                                for one in parameters))
 
     def test_by_place_and_by_name(self):
         for module, name, words, rows in CALLS:

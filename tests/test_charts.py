@@ -3,15 +3,14 @@
 import random
 import unittest
 
-from tests.examples import (DOC_LAB, EMPTY_TASK, NEVER_RIGHT, NO_TUPLES, RUN_LAB, RUN_TASK, TASK, changed,
-                            literal_broken, literal_moves, literal_ticks, random_tasks)
-from tests.test_runs import RUN, STANDINGS, random_run
+from tests.examples import (
+    DOC_LAB, EMPTY_TASK, NEVER_RIGHT, NO_TUPLES, RUN, RUN_CHART, RUN_LAB, RUN_STANDINGS, RUN_TASK, TASK, changed,
+    literal_broken, literal_moves, literal_ticks, random_run, random_tasks)
 from washedarms.chartchecks import chart_fault
 from washedarms.charts import chart_of, run_of_chart, standing_of_chart
 from washedarms.errors import BadChart, BadRun, BadTask, BadTicks
 from washedarms.forms import start
 
-CHART = ((0, 0, "step", 0, 2, 1), (2, 0, "wash", 0, 3, 0), (3, 0, "step", 0, 4, 0))
 # Two samples that share a zone, a third one that doesn't; the first one has a window.
 LAB = (((1, 0), (1, None)), ((((0,), (0, 1)), 1, 2),), 2, 2, 1)
 TASK_3 = (LAB, ((((0, (0, 1), (0,), 1, 2), (1, (0, 1), (), 1, 1)), (None, 1)), (((0, (0, 1), (0,), 1, 3),), (None,)),
@@ -20,7 +19,7 @@ TASKS = [RUN_TASK, EMPTY_TASK, TASK_3, TASK] + random_tasks(52, 12, samples=2, t
 
 
 def all_runs(task, ticks):
-    """All RUNS of so many rows from the START, and their last STANDINGS."""
+    """All RUNS of so many rows from the START, and their last RUN_STANDINGS."""
     rows = [((), start(task))]
     for _ in range(ticks):
         rows = [(run + ((move, late),), behind) for run, standing in rows if not literal_broken(task, standing)
@@ -50,8 +49,8 @@ class ThereAndBackTest(unittest.TestCase):
 
     def test_by_hand(self):
         for rows in range(5):
-            chart = self.check(RUN_TASK, RUN[:rows], STANDINGS[rows])
-        self.assertEqual(chart, CHART)
+            chart = self.check(RUN_TASK, RUN[:rows], RUN_STANDINGS[rows])
+        self.assertEqual(chart, RUN_CHART)
         self.assertEqual(chart_of(RUN_TASK, RUN[:1]), ((0, 0, "step", 0, -1, -1),))
         self.assertEqual(chart_of(RUN_TASK, ()), ())
         self.assertEqual(run_of_chart(RUN_TASK, 2, ()), (((), ()), ((), ())))
@@ -92,7 +91,8 @@ class ThereAndBackTest(unittest.TestCase):
         """Values near a CHART."""
         found = [chart[:index] + chart[index + 1:] for index in range(len(chart))]
         found += [chart[:index + 1] + chart[index:] for index in range(len(chart))]
-        found += [chart[:index] + (chart[index + 1], chart[index]) + chart[index + 2:] for index in range(len(chart) - 1)]
+        found += [chart[:index] + (chart[index + 1], chart[index]) + chart[index + 2:]
+                  for index in range(len(chart) - 1)]
         for index, bar in enumerate(chart):
             for place in (0, 1, 3, 4, 5):
                 for more in (-1, 1):
@@ -124,21 +124,25 @@ class FaultTest(unittest.TestCase):
                 self.assertEqual(caught.exception.why, word)
 
     def test_form(self):
-        for wrong in NO_TUPLES + (list(CHART), CHART[0]):
+        for wrong in NO_TUPLES + (list(RUN_CHART), RUN_CHART[0]):
             self.check(4, wrong, "form")
         for place in range(6):
             for wrong in NEVER_RIGHT + (None,):
                 if wrong == "step" and type(wrong) is str and place == 2:
                     continue
-                self.check(4, changed(CHART, (1, place), wrong), "form")
-        for bar in ((), CHART[2][:5], CHART[2] + (0,), list(CHART[2]), (4, 0, "step", 0, 5, 0), (-1, 0, "step", 0, 4, 0),
-                    (3, 1, "step", 0, 4, 0), (3, -1, "step", 0, 4, 0), (3, 0, "rinse", 0, 4, 0), (3, 0, "step", 1, 4, 0),
-                    (3, 0, "step", -1, 4, 0), (3, 0, "wash", 1, 4, 0), (3, 0, "wash", -1, 4, 0), (3, 0, "step", 0, 3, 0),
+                self.check(4, changed(RUN_CHART, (1, place), wrong), "form")
+        for bar in ((), RUN_CHART[2][:5], RUN_CHART[2] + (0,), list(RUN_CHART[2]), (4, 0, "step", 0, 5, 0), (-1, 0,
+                "step", 0, 4, 0),
+                    (3, 1, "step", 0, 4, 0), (3, -1, "step", 0, 4, 0), (3, 0, "rinse", 0, 4, 0), (3, 0, "step", 1, 4,
+                            0),
+                    (3, 0, "step", -1, 4, 0), (3, 0, "wash", 1, 4, 0), (3, 0, "wash", -1, 4, 0), (3, 0, "step", 0, 3,
+                            0),
                     (3, 0, "step", 0, 5, 0), (3, 0, "step", 0, 2, 0), (3, 0, "step", 0, 4, 2), (3, 0, "step", 0, 4, -1),
-                    (3, 0, "step", 0, -1, 0), (3, 0, "step", 0, -1, -2), (3, 0, "step", 0, -2, -1), (3, 0, "step", 0, 0, 0),
-                    (3, 0, "step", 0, -2, -2), (4, 0, "step", 0, -1, -1)):
-            self.check(4, CHART[:2] + (bar,), "form")
-            self.check(4, (bar,) + CHART[1:], "form")
+                    (3, 0, "step", 0, -1, 0), (3, 0, "step", 0, -1, -2), (3, 0, "step", 0, -2, -1), (3, 0, "step", 0,
+                            0, 0),
+                    (3, 0, "step", 0, -2, -2), (3, 0, "step", 0, 0, -1), (4, 0, "step", 0, -1, -1)):
+            self.check(4, RUN_CHART[:2] + (bar,), "form")
+            self.check(4, (bar,) + RUN_CHART[1:], "form")
         # A bar of a laboratory without washes, of a task without samples.
         self.check(3, ((0, 0, "wash", 0, -1, -1),), "form", EMPTY_TASK)
         self.check(3, ((0, 0, "step", 0, -1, -1),), "form", EMPTY_TASK)
@@ -146,7 +150,7 @@ class FaultTest(unittest.TestCase):
         self.check(0, ((0, 0, "step", 0, -1, -1),), "form")
 
     def test_order(self):
-        one, two, three = CHART
+        one, two, three = RUN_CHART
         self.check(4, (one, two, three), "")
         self.check(4, (two, one, three), "order")
         self.check(4, (one, one, two), "order")
@@ -157,7 +161,7 @@ class FaultTest(unittest.TestCase):
         self.check(2, both[::-1], "order", TASK_3)
 
     def test_tool(self):
-        one, two, three = CHART
+        one, two, three = RUN_CHART
         self.check(4, (one[:4] + (3, 1), two, three), "tool")
         self.check(4, (one[:4] + (-1, -1), two, three), "tool")
         self.check(4, ((0, 0, "step", 0, 2, 1), (1, 0, "wash", 0, 3, 0)), "tool")
@@ -165,7 +169,7 @@ class FaultTest(unittest.TestCase):
     def test_sample(self):
         # More bars than steps; a tool that isn't let; a bar that has not ended, or ends too late.
         wash = (4, 0, "wash", 0, 5, 0)
-        self.check(6, CHART + (wash, (5, 0, "step", 0, 6, 0)), "sample")
+        self.check(6, RUN_CHART + (wash, (5, 0, "step", 0, 6, 0)), "sample")
         bars = ((0, 0, "step", 2, 2, 0),)
         self.check(2, bars, "sample", TASK_3)
         self.check(2, ((0, 1, "step", 2, 2, 0),), "", TASK_3)
@@ -178,7 +182,7 @@ class FaultTest(unittest.TestCase):
         self.check(3, ((0, 1, "step", 0, 2, 1), (2, 0, "step", 0, -1, -1)), "sample", TASK)
 
     def test_state(self):
-        one, two, three = CHART
+        one, two, three = RUN_CHART
         self.check(4, (one, two[:5] + (1,), three), "state")
         self.check(4, (one[:5] + (0,), two, three), "state")
         self.check(4, (one, two, three[:5] + (1,)), "state")
@@ -233,6 +237,27 @@ class FaultTest(unittest.TestCase):
         self.check(200, ((0, 0, "step", 1, 1, 1),), "", TASK_3)
         self.check(200, ((199, 0, "step", 0, -1, -1),), "", TASK_3)
         self.check(200, (), "", TASK_3)
+
+    def test_windows_behind_later_steps(self):
+        step = (0, (0, 1), (), 1, 6)
+        task = ((((0,),), (), 2, 2, 0), (((step,) * 4, (None, None, 1, 3)),))
+        one, two, three = (0, 0, "step", 0, 2, 0), (5, 1, "step", 0, 9, 0), (10, 0, "step", 0, 13, 0)
+        for ticks, bars, word, rest in (
+                (3, (one,), "", (1, 0)), (9, (one,), "", (1, 0)), (9, (one, two), "", (2, 0)),
+                (10, (one, two), "", (2, 1)), (11, (one, two), "", (2, 2)), (12, (one, two), "window", None),
+                (9, (one, two[:4] + (-1, -1)), "", (1, 0)), (10, (one, two[:4] + (-1, -1)), "", (1, 0)),
+                (13, (one, two, three), "", (3, 0)), (15, (one, two, three), "", (3, 2)),
+                (17, (one, two, three), "", (3, 4)), (18, (one, two, three), "window", None),
+                (12, (one, two, three[:4] + (-1, -1)), "", (2, 0)),
+                (14, (one, two, (11, 0, "step", 0, 13, 0)), "window", None)):
+            self.check(ticks, bars, word, task)
+            if rest is not None:
+                self.assertEqual(standing_of_chart(task, ticks, bars)[0], (rest,))
+
+    def test_a_tool_beyond_the_arms(self):
+        one_arm = (LAB[:3] + (1, 1), TASK_3[1])
+        self.check(3, ((0, 1, "wash", 0, 2, 0), (1, 1, "wash", 0, 3, 0)), "tool", one_arm)
+        self.check(3, ((0, 1, "wash", 0, -1, -1), (1, 1, "wash", 0, 3, 0)), "tool", one_arm)
 
     def test_the_first_rule_is_told(self):
         order = ((2, 0, "wash", 0, 3, 0), (0, 0, "step", 0, 2, 1), (0, 0, "step", 0, 2, 1))

@@ -2,14 +2,12 @@
 
 import unittest
 
-from tests.examples import DOC_LAB, GREAT_LAB, LEAST_LAB, NEVER_RIGHT, NO_TUPLES, changed, places, random_labs
-from tests.games import LABS, literal_deeds, literal_washing, nodes
+from tests.examples import (
+    DOC_LAB, GAME_LABS, GREAT_LAB, LEAST_LAB, NEVER_RIGHT, NO_TUPLES, WRONG_LOTS, changed, literal_deeds,
+    literal_washing, nodes, places, random_labs)
 from washedarms.courses import course_plan, course_plan_fault, deeds, is_course_plan, washing
 from washedarms.errors import BadLab, BadLot, BadState, BadTicks, TooGreat
 
-# No LOT of DOC_LAB, which has two stuffs.
-WRONG_LOTS = NEVER_RIGHT + (None, 0, (), (1,), (1, 1, 1), [1, 1], (13, 0), (0, 13), (-1, 1), (1, -1), (12, 13), (True, 0),
-                            (0, False), (None, 0), (0, "1"), (0, (1,)), (10 ** 900, 0))
 PLAN = ((0, (1, 0), (0, 0), 0), (2, (1, 0), (1, 0), 3), (2, (1, 1), (0, 1), 3))
 
 
@@ -157,7 +155,8 @@ class PlanTest(unittest.TestCase):
         for row in paper:
             for more in (-1, 0, 1):
                 if row[3] + more >= 0:
-                    self.assertIs(is_course_plan(lab, row[0], row[1], row[3] + more, paper), fault is None and more >= 0)
+                    self.assertIs(is_course_plan(lab, row[0], row[1], row[3] + more, paper),
+                                  fault is None and more >= 0)
 
     def test_empty_lots(self):
         self.assertIs(is_course_plan(DOC_LAB, 2, (0, 0), 0, ()), True)
@@ -183,7 +182,8 @@ class PlanTest(unittest.TestCase):
                     (0, (0, 0), (0, 0), 0), (0, (1,), (0, 0), 0), (0, (13, 0), (0, 0), 0), (0, (1, 0), (0, 1), 0),
                     (0, (1, 0), (0, 2), 0), (0, (1, 0), (1, 1), 0), (0, (1, 0), (2, 0), 0), (0, (1, 0), (0,), 0),
                     (0, (1, 0), (0, 0, 0), 0), (0, (1, 0), None, 0), (0, (1, 0), (0, 0), -1), (0, (0, 0), (1, 0), 0),
-                    (0, (1, 0), (0, -1), 0), (1, (0, 1), (0, 1), 0), (0, (1, 0), (False, 0), 0)):
+                    (0, (1, 0), (0, -1), 0), (1, (0, 1), (0, 1), 0), (-1, (0, 1), (0, 1), 0), (0, (1, 0), (False, 0),
+                            0)):
             self.assertEqual(course_plan_fault(DOC_LAB, (row,) + PLAN[1:]), (0, "form"), row)
             self.assertEqual(course_plan_fault(DOC_LAB, PLAN + (row,)), (3, "form"), row)
             # The form of all rows is looked at ahead of what deeds lead to.
@@ -235,7 +235,7 @@ class ErrorsTest(unittest.TestCase):
                 washing((((0, 0, 0),), (), 1, 1, 0), 0, wrong)
 
     def test_some_labs(self):
-        self.assertEqual(len(LABS), 25)
+        self.assertEqual(len(GAME_LABS), 25)
         for lab in random_labs(32, 10, stuffs=1):
             self.assertEqual(washing(lab, 0, (1,)), 0)
 

@@ -4,9 +4,9 @@ import random
 import unittest
 from itertools import product
 
-from tests.examples import (DOC_LAB, EMPTY_TASK, NEVER_RIGHT, NO_TUPLES, RUN_TASK, TASK, changed, literal_soonest,
-                            random_lab)
-from tests.games import literal_washing
+from tests.examples import (
+    DOC_LAB, EMPTY_TASK, NEVER_RIGHT, NO_TUPLES, RUN_TASK, TASK, changed, literal_soonest, literal_washing,
+    random_lab)
 from washedarms.dealings import dealing_late, least_dealing
 from washedarms.errors import BadDealing, BadTask, NotEven
 
@@ -26,7 +26,8 @@ def even_tasks(seed, many):
     rng = random.Random(seed)
     found = []
     while len(found) < many:
-        lab = random_lab(rng, states=rng.randint(2, 3), stuffs=2, washes=rng.randint(0, 2), tools=2, arms=rng.randint(1, 2))
+        lab = random_lab(rng, states=rng.randint(2, 3), stuffs=2, washes=rng.randint(0, 2), tools=2,
+                         arms=rng.randint(1, 2))
         samples = []
         one_tool = rng.random() < 0.5
         for _ in range(rng.randint(0, 3)):

@@ -3,9 +3,9 @@
 import random
 import unittest
 
-from tests.examples import (DOC_LAB, EMPTY_TASK, GREAT_LAB, GREAT_TASK, NEVER_RIGHT, NO_TUPLES, RUN_TASK, TASK, at,
-                            changed, literal_jobs, literal_positions, literal_standings, literal_stands, places,
-                            random_tasks)
+from tests.examples import (
+    DOC_LAB, EMPTY_TASK, GREAT_LAB, GREAT_TASK, NEVER_RIGHT, NO_TUPLES, RUN_TASK, TASK, at, changed, literal_jobs,
+    literal_positions, literal_standings, literal_stands, Odd, places, random_tasks)
 from washedarms.errors import BadStanding, BadTask
 from washedarms.forms import is_standing, need_standing, pairs_for, positions, standing_fault, start
 
@@ -101,8 +101,10 @@ class FaultTest(unittest.TestCase):
         clean = ((0, 0),) * 3
         for job in (("out",), ()):
             self.check_jobs(clean, (job, job))
-        for job in (("in",), ("out", 0), ("out", 0, 0), ("out", 0, 1), ("step",), ("wash", 0), ("step", 0), ("step", 0, 1, 1),
-                    ("rinse", 0, 1), (0, 0, 1), (None,), (0,), "out", ["out"], ("wash", 0, 1, 1)):
+        for job in (("in",), ("out", 0), ("out", 0, 0), ("out", 0, 1), ("step",), ("wash", 0), ("step", 0), ("step",
+                0, 1, 1),
+                    ("rinse", 0, 1), (Odd(),), (Odd(), 0, 1), (0, 0, 1), (None,), (0,), "out", ["out"], ("wash", 0, 1,
+                            1)):
             self.check_jobs(clean, (job, ()), 0)
             self.check_jobs(clean, ((), job), 1)
 
@@ -120,6 +122,7 @@ class FaultTest(unittest.TestCase):
             self.check_jobs(((0, 0),) * 3, (("wash", which, 1), ()), 0)
         for which in (-3, -2, -1, 1, 3, 4, False, None, "0", (0,), 10 ** 900):
             self.check_jobs(((0, 0),) * 3, (("step", which, 1), ()), 0)
+            self.check_jobs(((0, 0),) * 3, ((), ("step", which, 1)), 1)
 
     def test_what_a_step_needs(self):
         # All is done; no steps; it waits; the tool isn't let; the stuff is barred in the state 1.
@@ -140,6 +143,12 @@ class FaultTest(unittest.TestCase):
         self.check_jobs(clean, (one, three, wash), task=task)
         self.check_jobs(clean, (wash, wash, wash), task=task)
         self.check_jobs(clean, (one, one, ()), 1, task)
+        # The last sample uses no zone, and stands in one JOB all the same.
+        no_zone = (task[0], task[1][:2] + ((((0, (0, 1, 2), (), 1, 2),), (None,)),))
+        self.check_jobs(clean, (one, (), three), task=no_zone)
+        self.check_jobs(clean, (three, three, ()), 1, no_zone)
+        self.check_jobs(clean, (three, one, three), 2, no_zone)
+        self.check_jobs(clean, ((), three, three), 2, no_zone)
         self.check_jobs(clean, (one, wash, one), 2, task)
         self.check_jobs(clean, (one, two, ()), 1, task)
         self.check_jobs(clean, (one, three, two), 2, task)

@@ -4,8 +4,7 @@ import random
 import unittest
 from itertools import product
 
-from tests.examples import DOC_LAB, GREAT_LAB, LEAST_LAB, NEVER_RIGHT, random_labs
-from tests.test_touches import WRONG_ROWS
+from tests.examples import DOC_LAB, GREAT_LAB, LEAST_LAB, NEVER_RIGHT, WRONG_ROWS, at, random_labs
 from washedarms.errors import BadLab, BadLength, BadNumber, BadRow, BadState
 from washedarms.freerows import free_row_at, free_row_count, free_row_place
 

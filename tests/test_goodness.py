@@ -3,8 +3,8 @@
 import unittest
 from itertools import combinations, permutations
 
-from tests.examples import (DOC_LAB, GREAT_LAB, LEAST_LAB, NEVER_RIGHT, changed, literal_soonest, places, random_labs,
-                            random_tasks)
+from tests.examples import (
+    DOC_LAB, GREAT_LAB, LEAST_LAB, NEVER_RIGHT, changed, literal_soonest, places, random_labs, random_tasks)
 from washedarms.errors import BadLab, BadState
 from washedarms.goodness import as_good_pairs, is_as_good, is_simulation, lack, lack_fault
 from washedarms.forms import start

@@ -2,8 +2,8 @@
 
 import unittest
 
-from tests.examples import (DOC_LAB, GREAT_LAB, LEAST_LAB, NEVER_RIGHT, NO_TUPLES, RUN_LAB, at, changed, places,
-                            random_labs)
+from tests.examples import (
+    DOC_LAB, GREAT_LAB, LEAST_LAB, NEVER_RIGHT, NO_TUPLES, RUN_LAB, at, changed, places, random_labs)
 from washedarms.errors import BadLab, BadState
 from washedarms.labs import is_lab, lab_fault, need_lab, need_state
 

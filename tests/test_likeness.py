@@ -3,8 +3,9 @@
 import unittest
 from itertools import product
 
-from tests.examples import (DOC_LAB, GREAT_LAB, LEAST_LAB, NEVER_RIGHT, NO_TUPLES, changed, literal_soonest, places,
-                            random_labs, random_tasks)
+from tests.examples import (
+    DOC_LAB, GREAT_LAB, LEAST_LAB, NEVER_RIGHT, NO_TUPLES, changed, literal_soonest, places, random_labs,
+    random_tasks)
 from washedarms.courses import washing
 from washedarms.errors import BadLab, BadState
 from washedarms.forms import start
@@ -99,7 +100,8 @@ class ClassesTest(unittest.TestCase):
         for row in ((0, 0, 0), (0, 1, 1), (0, 0, 1), (0, 1, 0), (0, 1, 2)):
             self.assertIs(is_like(lab, row), True)
         for row in ((0, 0), (0, 0, 0, 0), (1, 1, 1), (1, 0, 0), (0, 2, 1), (0, 0, 2), (0, 1, 3), [0, 0, 0], (0, 0, -1),
-                    (0, 0, False), (False, 0, 0), (0, True, True), (0, None, 0), (None,) * 3, ("0",) * 3, ((0,),) * 3, ()):
+                    (0, 0, False), (False, 0, 0), (0, True, True), (0, None, 0), (None,) * 3, ("0",) * 3, ((0,),) * 3,
+                    ()):
             self.assertIs(is_like(lab, row), False)
         for wrong in NO_TUPLES:
             self.assertIs(is_like(lab, wrong), False)
@@ -196,11 +198,15 @@ class PaperTest(unittest.TestCase):
                     continue
                 self.assertEqual(paper_fault(WASH_LAB, 2, 1, changed(rows, place, wrong)), -2, (place, wrong))
         for row in ((0, 1, 0, ("stuff", 1)), (0, 1, -1, ("stuff", 1)), (1, 0, 1, ("stuff", 1)), (1, 1, 1, ("stuff", 1)),
-                    (0, 4, 1, ("stuff", 1)), (-1, 1, 1, ("stuff", 1)), (0, 1, 1, ("stuff", 2)), (0, 1, 1, ("stuff", -1)),
-                    (0, 1, 1, ("touch", 2)), (0, 1, 1, ("stuff",)), (0, 1, 1, ("stuff", 1, 0)), (0, 1, 1, ("touch", 0, 0)),
+                    (0, 4, 1, ("stuff", 1)), (-1, 1, 1, ("stuff", 1)), (0, 1, 1, ("stuff", 2)), (0, 1, 1, ("stuff",
+                            -1)),
+                    (0, 1, 1, ("touch", 2)), (0, 1, 1, ("stuff",)), (0, 1, 1, ("stuff", 1, 0)), (0, 1, 1, ("touch", 0,
+                            0)),
                     (0, 1, 1, ("wash", 0, 0)), (0, 1, 1, ("wash", 1, 0, 0)), (0, 1, 1, ("wash", 0, 2, 0)),
-                    (0, 1, 1, ("wash", 0, -1, 0)), (0, 1, 1, ("wash", 0, 0, 4)), (0, 1, 1, ("wash", 0, 0, -1)), (0, 1, 1),
-                    (0, 1, 1, ("leaves", 0)), (0, 1, 1, ("stuff", 1), 0), (0, 1, 1, ()), (), (0, 1, 1, ("wash", -1, 0, 0))):
+                    (0, 1, 1, ("wash", 0, -1, 0)), (0, 1, 1, ("wash", 0, 0, 4)), (0, 1, 1, ("wash", 0, 0, -1)), (0, 1,
+                            1),
+                    (0, 1, 1, ("leaves", 0)), (0, 1, 1, ("stuff", 1), 0), (0, 1, 1, ()), (), (0, 1, 1, ("wash", -1, 0,
+                            0))):
             self.assertEqual(paper_fault(WASH_LAB, 2, 1, (row,) + rows[1:]), -2, row)
             # The form and the order of all rows are looked at ahead of any REASON.
             self.assertEqual(paper_fault(WASH_LAB, 2, 1, ((0, 1, 1, ("stuff", 0)), row)), -2)

@@ -2,9 +2,9 @@
 
 import unittest
 
-from tests.examples import (DOC_LAB, EMPTY_TASK, GREAT_TASK, NEVER_RIGHT, NO_TUPLES, RUN_LAB, RUN_TASK, TASK, at,
-                            changed, literal_broken, literal_is_move, literal_moves, literal_standings, places,
-                            random_tasks)
+from tests.examples import (
+    DOC_LAB, EMPTY_TASK, GREAT_TASK, NEVER_RIGHT, NO_TUPLES, RUN_LAB, RUN_TASK, TASK, at, changed, literal_broken,
+    literal_is_move, literal_moves, literal_standings, places, random_tasks)
 from washedarms.errors import BadStanding, BadTask, Broken
 from washedarms.forms import start
 from washedarms.moves import is_move, moves_of
@@ -72,11 +72,13 @@ class MovesTest(unittest.TestCase):
         standing = (((0, 0), (0, 0), (0, 0)), ((0, ()), (2, ())))
         right = ((0, "step", 0), (1, "step", 2))
         self.assertIs(is_move(task, standing, right), True)
-        for wrong in (((1, "step", 2), (0, "step", 0)), ((0, "step", 0), (0, "step", 0)), ((0, "step", 0), (0, "step", 1)),
+        for wrong in (((1, "step", 2), (0, "step", 0)), ((0, "step", 0), (0, "step", 0)), ((0, "step", 0), (0, "step",
+                1)),
                       ((0, "step", 0), (1, "step", 0)), ((0, "step", 2),), ((1, "step", 0),), ((2, "step", 0),),
                       ((-1, "step", 0),), ((0, "step", 3),), ((0, "step", -1),), ((0, "wash", 1),), ((0, "rinse", 0),),
                       ((0, "step"),), ((0, "step", 0, 0),), (0, "step", 0), [(0, "step", 0)], ([0, "step", 0],),
-                      ((0, "out", 0),), ((False, "step", 0),), ((0, "step", False),), ((0, "step", 0), (True, "step", 2)),
+                      ((0, "out", 0),), ((False, "step", 0),), ((0, "step", False),), ((0, "step", 0), (True, "step",
+                              2)),
                       ((0, 0, 0),), ((0, None, 0),)):
             self.assertIs(is_move(task, standing, wrong), False, wrong)
         for place in places(right):

@@ -2,7 +2,8 @@
 
 import unittest
 
-from tests.examples import (DOC_LAB, GREAT_LAB, LEAST_LAB, NEVER_RIGHT, literal_soonest, random_labs, random_tasks)
+from tests.examples import (
+    DOC_LAB, GREAT_LAB, LEAST_LAB, NEVER_RIGHT, changed, literal_soonest, random_labs, random_tasks)
 from washedarms.errors import BadLab, BadNumber
 from washedarms.goodness import is_as_good
 from washedarms.labs import is_lab
@@ -80,6 +81,13 @@ class NeedlessTest(unittest.TestCase):
             with self.assertRaises(BadNumber) as caught:
                 lab_without(lab, wrong)
             self.assertIs(caught.exception.value, wrong)
+
+    def test_numbers_of_no_washes(self):
+        for lab in (LEAST_LAB, DOC_LAB, GREAT_LAB):
+            many = len(lab[1])
+            self.assertEqual(lab_without(lab, tuple(range(many))), (lab[0], ()) + lab[2:])
+            with self.assertRaises(BadNumber):
+                lab_without(lab, (many,))
 
     def test_lab_with_worst(self):
         changed = 0

@@ -4,8 +4,9 @@ import random
 import unittest
 from itertools import product
 
-from tests.examples import (EMPTY_TASK, GREAT_TASK, HUGE_TASK, NEVER_RIGHT, RUN_TASK, TASK, literal_positions,
-                            literal_standings, random_tasks)
+from tests.examples import (
+    EMPTY_TASK, GREAT_TASK, HUGE_TASK, NEVER_RIGHT, RUN_TASK, TASK, literal_positions, literal_standings,
+    random_tasks)
 from washedarms.errors import BadNumber, BadStanding, BadTask
 from washedarms.forms import is_standing, start
 from washedarms.numbering import number_of_standing, standing_at, standings_number

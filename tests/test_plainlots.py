@@ -4,8 +4,8 @@ import unittest
 from functools import lru_cache
 from itertools import combinations, product
 
-from tests.examples import DOC_LAB, GREAT_LAB, LEAST_LAB, NEVER_RIGHT, NO_TUPLES, changed, places, random_labs
-from tests.test_courses import WRONG_LOTS
+from tests.examples import (
+    DOC_LAB, GREAT_LAB, LEAST_LAB, NEVER_RIGHT, NO_TUPLES, WRONG_LOTS, changed, places, random_labs)
 from washedarms.errors import BadLab, BadLot, BadNumber, NeverClean, NotPlain
 from washedarms.labs import is_lab
 from washedarms.plainlots import (fewest_washes, follows, is_chains, is_plain, is_unfollowed, lot_chains, unfollowed,
@@ -106,7 +106,8 @@ class ChainsTest(unittest.TestCase):
     def test_by_hand(self):
         self.assertEqual(lot_chains(DOC_LAB, (2, 1)), (((0, 0), (0, 1)), ((1, 0),)))
         self.assertEqual(width(DOC_LAB, (12, 12)), 2)
-        self.assertEqual((lot_chains(DOC_LAB, (0, 0)), unfollowed(DOC_LAB, (0, 0)), width(DOC_LAB, (0, 0))), ((), (), 0))
+        self.assertEqual((lot_chains(DOC_LAB, (0, 0)), unfollowed(DOC_LAB, (0, 0)), width(DOC_LAB, (0, 0))), ((), (),
+                0))
         self.assertEqual(width(plain_lab(((0,),)), (12,)), 12)
         self.assertEqual(width(plain_lab(((1,),)), (12,)), 1)
         # The stuff 1 may follow the stuff 0, each use one of them.
@@ -146,8 +147,10 @@ class ChainsTest(unittest.TestCase):
         lab = plain_lab(((0, 1, 0), (0, 0, 0), (0, 0, 1)))
         lot = (2, 1, 2)
         right = ((), ((0, 0),), ((2, 1),), ((0, 0), (0, 1)), ((0, 0), (0, 1), (2, 0)), ((1, 0), (2, 1)))
-        wrong = (((0, 1), (0, 0)), ((0, 0), (0, 0)), ((0, 0), (1, 0)), ((2, 0), (2, 1)), ((0, 2),), ((3, 0),), ((-1, 0),),
-                 ((0, -1),), ((0, 0, 0),), ((0,),), (0, 0), ((False, 0),), ((0, True),), ([0, 0],), ((None, 0),), (None,),
+        wrong = (((0, 1), (0, 0)), ((0, 0), (0, 0)), ((0, 0), (1, 0)), ((2, 0), (2, 1)), ((0, 2),), ((3, 0),), ((-1,
+                0),),
+                 ((0, -1),), ((0, 0, 0),), ((0,),), (0, 0), ((False, 0),), ((0, True),), ([0, 0],), ((None, 0),),
+                 (None,),
                  ((0, 0), (0, 1), (1, 0)), [(0, 0)])
         for paper in right:
             self.assertIs(is_unfollowed(lab, lot, paper), True)
@@ -234,7 +237,8 @@ class ErrorsTest(unittest.TestCase):
         for call in (follows, is_plain):
             with self.assertRaises(BadLab):
                 call(LEAST_LAB[:4])
-        for call, more in ((lot_chains, ()), (unfollowed, ()), (width, ()), (is_chains, ("x",)), (is_unfollowed, ("x",)),
+        for call, more in ((lot_chains, ()), (unfollowed, ()), (width, ()), (is_chains, ("x",)), (is_unfollowed,
+                ("x",)),
                            (fewest_washes, (0,))):
             with self.assertRaises(BadLab):
                 call(LEAST_LAB[:4], "y", *more)
@@ -243,7 +247,8 @@ class ErrorsTest(unittest.TestCase):
                     with self.assertRaises(BadLot) as caught:
                         call(lab, wrong, *more)
                     self.assertIs(caught.exception.value, wrong)
-        for call, more in ((lot_chains, ()), (unfollowed, ()), (width, ()), (fewest_washes, (1,)), (fewest_washes, (24,))):
+        for call, more in ((lot_chains, ()), (unfollowed, ()), (width, ()), (fewest_washes, (1,)), (fewest_washes,
+                (24,))):
             with self.assertRaises(NotPlain):
                 call(self.NOT_PLAIN, (1, 1), *more)
 

@@ -3,38 +3,24 @@
 import random
 import unittest
 
-from tests.examples import (EMPTY_TASK, GREAT_TASK, NO_TUPLES, RUN_LAB, RUN_TASK, literal_broken, literal_moves,
-                            literal_standings, literal_ticks, random_tasks)
+from tests.examples import (
+    EMPTY_TASK, GREAT_TASK, NO_TUPLES, RUN, RUN_LAB, RUN_STANDINGS, RUN_TASK, literal_standings, random_run,
+    random_tasks)
 from washedarms.errors import BadRun, BadStanding, BadTask
 from washedarms.forms import start
 from washedarms.runs import played
 
-RUN = ((((0, "step", 0),), ()), ((), ((0, 1),)), (((0, "wash", 0),), ((0, 0),)), (((0, "step", 0),), ((0, 0),)))
-STANDINGS = ((((0, 0),), ((0, ()),)), (((0, 0),), ((0, ("step", 0, 1)),)), (((1, 0),), ((1, ()),)),
-             (((1, 1),), ((0, ()),)), (((2, 0),), ((0, ()),)))
-
-
-def random_run(rng, task, standing, rows):
-    """Some RUN of at most so many rows, and its STANDINGS."""
-    run, found = (), (standing,)
-    while len(run) < rows and not literal_broken(task, standing):
-        move = rng.choice(literal_moves(task, standing))
-        late, standing = rng.choice(literal_ticks(task, standing, move))
-        run += ((move, late),)
-        found += (standing,)
-    return run, found
-
 
 class RunsTest(unittest.TestCase):
-    def check_bad(self, run, index, why, standing=STANDINGS[0], task=RUN_TASK):
+    def check_bad(self, run, index, why, standing=RUN_STANDINGS[0], task=RUN_TASK):
         with self.assertRaises(BadRun) as caught:
             played(task, standing, run)
         self.assertEqual((caught.exception.index, caught.exception.why), (index, why))
 
     def test_by_hand(self):
         for rows in range(5):
-            self.assertEqual(played(RUN_TASK, STANDINGS[0], RUN[:rows]), STANDINGS[:rows + 1])
-            self.assertEqual(played(RUN_TASK, STANDINGS[rows], RUN[rows:]), STANDINGS[rows:])
+            self.assertEqual(played(RUN_TASK, RUN_STANDINGS[0], RUN[:rows]), RUN_STANDINGS[:rows + 1])
+            self.assertEqual(played(RUN_TASK, RUN_STANDINGS[rows], RUN[rows:]), RUN_STANDINGS[rows:])
         self.assertEqual(played(EMPTY_TASK, start(EMPTY_TASK), (((), ()),) * 500), (start(EMPTY_TASK),) * 501)
 
     def test_some_runs(self):
@@ -68,7 +54,7 @@ class RunsTest(unittest.TestCase):
     def test_broken(self):
         wait = ((), ())
         broken = (((1, 2),), ((1, ()),))
-        self.assertEqual(played(RUN_TASK, STANDINGS[0], RUN[:2] + (wait, wait))[-1], broken)
+        self.assertEqual(played(RUN_TASK, RUN_STANDINGS[0], RUN[:2] + (wait, wait))[-1], broken)
         for row in (wait, ("x", "y"), (((0, "wash", 0),), ())):
             self.check_bad(RUN[:2] + (wait, wait, row), 4, "broken")
             self.check_bad((row,), 0, "broken", broken)

@@ -2,8 +2,9 @@
 
 import unittest
 
-from tests.examples import (DOC_LAB, EMPTY_TASK, GREAT_TASK, NEVER_RIGHT, NO_TUPLES, RUN_TASK, TASK, changed,
-                            literal_broken, literal_done, literal_standings, random_tasks)
+from tests.examples import (
+    DOC_LAB, EMPTY_TASK, GREAT_TASK, NEVER_RIGHT, NO_TUPLES, RUN_TASK, TASK, at, changed, literal_broken,
+    literal_done, literal_standings, random_tasks)
 from washedarms.errors import BadNumber, BadStanding, BadTask
 from washedarms.forms import start
 from washedarms.standings import in_use, is_broken, is_done, is_live, window_of
@@ -56,8 +57,10 @@ class StandingsTest(unittest.TestCase):
         self.assertEqual(in_use(TASK, standing), (1, (), ()))
 
     def test_windows(self):
-        for rests, windows in ((((0, 0), (0, 0), (0, 0)), (None, None, None)), (((1, 0), (0, 0), (1, 0)), (1, None, None)),
-                               (((1, 2), (0, 0), (2, 1)), (1, None, 0)), (((2, 0), (0, 0), (3, 0)), (None, None, None))):
+        for rests, windows in ((((0, 0), (0, 0), (0, 0)), (None, None, None)), (((1, 0), (0, 0), (1, 0)), (1, None,
+                None)),
+                               (((1, 2), (0, 0), (2, 1)), (1, None, 0)), (((2, 0), (0, 0), (3, 0)), (None, None,
+                                       None))):
             for sample in range(3):
                 self.assertEqual(window_of(TASK, (rests, IDLE), sample), windows[sample])
         on = (((1, 0), (0, 0), (2, 0)), ((0, ("step", 2, 1)), (0, ())))
@@ -69,11 +72,13 @@ class StandingsTest(unittest.TestCase):
     def test_use(self):
         standing = (((1, 0), (0, 0), (0, 0)), ((0, ()), (0, ("step", 0, 1))))
         self.assertEqual(in_use(TASK, standing), (1, (0,), (0, 1)))
-        self.assertEqual(in_use(TASK, (((0, 0), (0, 0), (2, 0)), ((0, ("step", 2, 1)), (1, ("wash", 0, 1))))), (2, (2,), (0,)))
+        self.assertEqual(in_use(TASK, (((0, 0), (0, 0), (2, 0)), ((0, ("step", 2, 1)), (1, ("wash", 0, 1))))), (2,
+                (2,), (0,)))
         self.assertEqual(in_use(TASK, start(TASK)), (0, (), ()))
         task = (DOC_LAB, (((((0, (0, 1), (1,), 1, 2),)), (None,)), ((((0, (0, 1), (0,), 1, 2),)), (None,))))
         # Samples and zones ascend, whatever tools serve them.
-        self.assertEqual(in_use(task, (((0, 0), (0, 0)), ((0, ("step", 1, 1)), (0, ("step", 0, 1))))), (2, (0, 1), (0, 1)))
+        self.assertEqual(in_use(task, (((0, 0), (0, 0)), ((0, ("step", 1, 1)), (0, ("step", 0, 1))))), (2, (0, 1), (0,
+                1)))
 
     def test_wrong_arguments(self):
         for call in (is_done, is_broken, is_live, in_use):

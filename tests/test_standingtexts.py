@@ -3,8 +3,8 @@
 import random
 import unittest
 
-from tests.examples import (DOC_LAB, EMPTY_TASK, GREAT_TASK, HUGE_TASK, NO_TUPLES, RUN_TASK, TASK, literal_standings,
-                            random_tasks)
+from tests.examples import (
+    DOC_LAB, EMPTY_TASK, GREAT_TASK, HUGE_TASK, NO_TUPLES, RUN_TASK, TASK, literal_standings, random_tasks)
 from washedarms.errors import BadStanding, BadTask, BadText
 from washedarms.forms import start
 from washedarms.numbering import standing_at, standings_number

@@ -2,8 +2,9 @@
 
 import unittest
 
-from tests.examples import (DOC_LAB, EMPTY_TASK, GREAT_TASK, HUGE_TASK, LEAST_LAB, NEVER_RIGHT, NO_TUPLES, RUN_TASK,
-                            STEP, TASK, at, changed, places, random_tasks)
+from tests.examples import (
+    DOC_LAB, EMPTY_TASK, GREAT_TASK, HUGE_TASK, LEAST_LAB, NEVER_RIGHT, NO_TUPLES, RUN_TASK, STEP, TASK, at,
+    changed, places, random_tasks)
 from washedarms.errors import BadTask
 from washedarms.labs import lab_fault
 from washedarms.tasks import is_task, need_task, next_step, task_fault

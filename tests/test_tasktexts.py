@@ -2,7 +2,7 @@
 
 import unittest
 
-from tests.examples import (DOC_LAB, EMPTY_TASK, GREAT_TASK, HUGE_TASK, NO_TUPLES, RUN_TASK, TASK, random_tasks)
+from tests.examples import DOC_LAB, EMPTY_TASK, GREAT_TASK, HUGE_TASK, NO_TUPLES, RUN_TASK, TASK, random_tasks
 from washedarms.errors import BadTask, BadText
 from washedarms.tasktexts import read_task, task_text, task_text_fault
 
@@ -168,20 +168,28 @@ class TextTest(unittest.TestCase):
                 elif not low <= high <= 6:
                     place = 2
                 self.check_line(4, f"wash {low} {high}", None if place is None else (4, place))
-                self.check_line(9, f"step 0 tools 0 zones ticks {low} {high}", None if place is None else (9, place + 5))
+                self.check_line(9, f"step 0 tools 0 zones ticks {low} {high}", None if place is None else (9,
+                        place + 5))
 
     def test_results(self):
         for words, place in (("0 1 2", None), ("0", None), ("2", None), ("1 2", None), ("3", 1), ("0 0", 2), ("1 0", 2),
                              ("0 1 2 3", 4), ("0 1 2 0", 4), ("0 2 1", 3), ("0 3", 2), ("- 0", 1)):
             self.check_line(6, "leaves " + words, None if place is None else (6, place))
         self.check_line(6, "leaves", (6, 1))
+        # Three states at most may be left, also where there are more.
+        for words, fault in (("0 1 2", None), ("1 3 4", None), ("0 1 2 3", (3, 4)), ("0 1 2 3 4", (3, 4)), ("0 1 2 ",
+                (3, 4))):
+            rows = ["lab 5 1 1 1 0", "wash 1 1", "leaves " + words] + ["state 0"] * 5 + ["leaves 0"] * 4
+            rows = rows[:1] + rows[3:8] + rows[1:3] + rows[8:]
+            self.check("\n".join(rows), None if fault is None else (7, fault[1]))
         text = task_text((DOC_LAB[:1] + (((((0, 1, 2),) * 3, 1, 1),),) + DOC_LAB[2:], ()))
         self.assertIn("leaves 0 1 2\nleaves 0 1 2", text)
 
     def test_steps(self):
         for words, place in (
                 ("0 tools 0 zones ticks 1 1", None), ("2 tools 0 zones ticks 1 1", 1), ("0 tools zones ticks 1 1", 3),
-                ("0 tools 2 zones ticks 1 1", 3), ("0 tools 0 0 zones ticks 1 1", 4), ("0 tools 1 0 zones ticks 1 1", 4),
+                ("0 tools 2 zones ticks 1 1", 3), ("0 tools 0 0 zones ticks 1 1", 4), ("0 tools 1 0 zones ticks 1 1",
+                        4),
                 ("0 tools 0 1 2 zones ticks 1 1", 5), ("0 tools 0 1 zones 0 1 ticks 1 1", None), ("0 tools 0 ticks", 4),
                 ("0 tools 0 zones 1 0 ticks 1 1", 6), ("0 tools 0 zones 2 ticks 1 1", 5), ("0 tools 0 zones 0 1 2", 7),
                 ("0 tools 0 zones", 5), ("0 tools 0 zones 0", 6), ("0 tools 0 1", 5), ("0 tools", 3), ("0 zones", 2),

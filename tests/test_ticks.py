@@ -2,8 +2,9 @@
 
 import unittest
 
-from tests.examples import (DOC_LAB, EMPTY_TASK, GREAT_TASK, NEVER_RIGHT, NO_TUPLES, RUN_TASK, TASK, at, changed,
-                            literal_broken, literal_moves, literal_standings, literal_ticks, places, random_tasks)
+from tests.examples import (
+    DOC_LAB, EMPTY_TASK, GREAT_TASK, NEVER_RIGHT, NO_TUPLES, RUN_TASK, TASK, at, changed, literal_broken,
+    literal_moves, literal_standings, literal_ticks, places, random_tasks)
 from washedarms.errors import BadLateness, BadMove, BadStanding, BadTask, Broken
 from washedarms.forms import is_standing, start
 from washedarms.ticks import after, is_lateness, latenesses_of
@@ -102,7 +103,8 @@ class TicksTest(unittest.TestCase):
         standing = (((0, 0), (0, 0)), ((1, ("wash", 0, 2)), (0, ("step", 1, 1))))
         right = ((0, 2), (1, 1))
         self.assertIs(is_lateness(WAIT_TASK, standing, (), right), True)
-        for wrong in (((1, 1), (0, 2)), ((0, 0), (0, 2)), ((0, 3),), ((1, 0),), ((1, 2),), ((2, 1),), ((-1, 1),), ((0,),),
+        for wrong in (((1, 1), (0, 2)), ((0, 0), (0, 2)), ((0, 3),), ((1, 0),), ((1, 2),), ((2, 1),), ((-1, 1),),
+                      ((0,),),
                       ((0, 2, 0),), (0, 2), [(0, 2)], ([0, 2],), ((False, 2),), ((1, True),), ((0, None),), (None,),
                       ((0, -1),), ((1, 1), (1, 1)), None):
             self.check_bad(standing, (), wrong)
@@ -137,7 +139,8 @@ class TicksTest(unittest.TestCase):
             for move in ((), "y", ((0, "wash", 0),)):
                 with self.assertRaises(Broken):
                     call(RUN_TASK, broken, move, *more)
-            for wrong in NEVER_RIGHT + NO_TUPLES + (((0, "wash", 1),), ((0, "step", 0), (0, "wash", 0)), ((True, "step", 0),),
+            for wrong in NEVER_RIGHT + NO_TUPLES + (((0, "wash", 1),), ((0, "step", 0), (0, "wash", 0)), ((True,
+                    "step", 0),),
                                                     ((0, "step", False),), ((0, "step", 1),), ((0, "rinse", 0),)):
                 with self.assertRaises(BadMove) as caught:
                     call(RUN_TASK, start(RUN_TASK), wrong, *more)

@@ -3,13 +3,9 @@
 import unittest
 from itertools import product
 
-from tests.examples import DOC_LAB, GREAT_LAB, LEAST_LAB, NEVER_RIGHT, random_labs
+from tests.examples import DOC_LAB, GREAT_LAB, LEAST_LAB, NEVER_RIGHT, WRONG_ROWS, random_labs
 from washedarms.errors import BadLab, BadRow, BadState
 from washedarms.touches import row_end, row_stop
-
-# No tuple of stuffs of DOC_LAB, which has the stuffs 0 and 1.
-WRONG_ROWS = NEVER_RIGHT + (None, 0, [0], (2,), (-1,), (0, 2), (0, 1, -1), (True,), (None,), (0, "1"), ((0,),), (0, False),
-                            (10 ** 900,))
 
 
 class TouchesTest(unittest.TestCase):

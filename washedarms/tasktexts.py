@@ -26,7 +26,7 @@ class LineReader:
     def take(self, words):
         """The next word, which must be one of these."""
         word = self.ahead()
-        if word is None or word not in words:
+        if word not in words:
             raise BadText(self.at, self.column)
         self.column += 1
         return word
