@@ -365,3 +365,215 @@ def literal_washing(lab, state, lot):
         if keeps_to(lab, state, lot, ticks):
             return ticks
     return None
+
+
+# Plans, tables, dues: literal readings over small TASKS.
+
+
+@lru_cache(maxsize=None)
+def literal_rows(task, standing):
+    """For each MOVE at a live STANDING, in order: the MOVE and what literal_ticks tells of it."""
+    if literal_done(task, standing) or literal_broken(task, standing):
+        return ()
+    return tuple((move, tuple(literal_ticks(task, standing, move))) for move in literal_moves(task, standing))
+
+
+def literal_met(first, rows_at):
+    """All nodes in the order in which they are first met, and the counts of nodes and triples behind each one."""
+    nodes, counts, triples = {first: 0}, [], 0
+    ahead = [first]
+    for node in ahead:
+        for _, ends in rows_at(node):
+            for _, behind in ends:
+                triples += 1
+                if behind is not None and behind not in nodes:
+                    nodes[behind] = len(nodes)
+                    ahead.append(behind)
+        counts.append((len(nodes), triples))
+    return tuple(nodes), counts
+
+
+def literal_ranks(task, standing):
+    """RANKS of all of the WEB by [61], round by round."""
+    web = literal_met(standing, lambda one: literal_rows(task, one))[0]
+    ranks = {one: 0 for one in web if literal_done(task, one)}
+    for rank in range(1, len(web) + 1):
+        new = [one for one in web if one not in ranks and any(
+            all(behind in ranks for _, behind in ends) for _, ends in literal_rows(task, one))]
+        ranks.update((one, rank) for one in new)
+        if not new:
+            break
+    return {one: ranks.get(one) for one in web}
+
+
+@lru_cache(maxsize=None)
+def literal_in_time(task, standing, ticks):
+    """Whether some way of choosing MOVES is surely done within so many ticks."""
+    if literal_done(task, standing) or ticks == 0:
+        return literal_done(task, standing)
+    return any(all(literal_in_time(task, behind, ticks - 1) for _, behind in ends)
+               for _, ends in literal_rows(task, standing))
+
+
+@lru_cache(maxsize=None)
+def small_tasks(seed, many, most, **kinds):
+    """Some TASKS with small WEBS, from the first to the last that are found with a seed."""
+    rng = random.Random(seed)
+    found = []
+    while len(found) < many:
+        task = random_task(rng, **kinds)
+        if standings_within(task, start(task), most):
+            found.append(task)
+    return tuple(found)
+
+
+def standings_within(task, standing, most):
+    """Whether no more than so many STANDINGS come from one."""
+    found, ahead = {standing}, [standing]
+    for one in ahead:
+        for _, ends in literal_rows(task, one):
+            for _, behind in ends:
+                if behind not in found:
+                    found.add(behind)
+                    ahead.append(behind)
+        if len(found) > most:
+            return False
+    return True
+
+
+# The TASK of the example under "Checkers of papers": a tool that is washed behind its only stuff.
+PAPER_LAB = (((1,), (None,)), ((((0,), (0,)), 1, 2),), 1, 1, 0)
+PAPER_TASK = (PAPER_LAB, ((((0, (0,), (), 1, 2),), (None,)),))
+# No wash: the second step can never begin.
+STUCK_TASK = (((((1, 0), (1, None))), (), 1, 1, 0), ((((0, (0,), (), 1, 2), (1, (0,), (), 1, 1)), (None, 1)),))
+# Two samples for one tool; who waits too long is broken.
+WINDOW_TASK = (RUN_LAB, ((((0, (0,), (), 1, 2), (1, (0,), (), 1, 1)), (None, 2)), (((0, (0,), (), 1, 1),), (None,))))
+# A wash that may leave the tool as it was, so that no plan surely ends, but some end with luck.
+LUCK_TASK = (((((1,), (None,))), ((((0,), (0, 1)), 1, 1),), 1, 1, 0), ((((0, (0,), (), 1, 1),), (None,)),) * 2)
+SMALL_TASKS = (RUN_TASK, PAPER_TASK, STUCK_TASK, WINDOW_TASK, LUCK_TASK, EMPTY_TASK) + small_tasks(
+    200, 10, 60, samples=1, steps=2, states=2, washes=1) + small_tasks(
+    201, 8, 90, samples=2, steps=1, tools=2, zones=1, washes=1) + small_tasks(
+    202, 8, 90, samples=2, tools=1, washes=1) + small_tasks(203, 4, 120, samples=2, steps=2, tools=1, washes=1)
+
+
+@lru_cache(maxsize=None)
+def some_standings(task, many):
+    """The START, some STANDINGS that come, and some others, among them broken ones and tools out of use."""
+    rng = random.Random(many)
+    web = literal_met(start(task), lambda one: literal_rows(task, one))[0]
+    found = list(web[:1]) + rng.sample(web, min(many, len(web)))
+    tools = task[0][2]
+    for _ in range(many):
+        rests, pairs = rng.choice(web)
+        tool = rng.randrange(tools)
+        if len(pairs[tool][1]) != 3:
+            found.append((rests, changed(pairs, (tool, 1), ("out",))))
+        for sample, (done, waited) in enumerate(rests):
+            steps, windows = task[1][sample]
+            idle = all(job[:2] != ("step", sample) for _, job in pairs)
+            if idle and 1 <= done < len(steps) and windows[done] is not None:
+                found.append((changed(rests, (sample, 1), rng.randint(0, windows[done] + 1)), pairs))
+        found.append((tuple((len(steps), 0) for steps, _ in task[1]), ((0, ()),) * tools))
+    return tuple(one for one in dict.fromkeys(found) if standings_within(task, one, 400))
+
+
+def wash_task(states, spans, results=(1, 1, 1), tools=2, high=1, named=(0, 1)):
+    """A TASK of one sample of one step with a great WEB: any tool may be washed from each state into others."""
+    meets = tuple(((state + 1) % states,) for state in range(states))
+    washes = tuple((tuple(tuple(sorted({(state + 1 + number + more) % states for more in range(results[number])}))
+                          for state in range(states)), 1, span) for number, span in enumerate(spans))
+    return ((meets, washes, tools, tools, 0), ((((0, named, (), 1, high),), (None,)),))
+
+
+# Of each of these pairs the one has a little less than a search may meet, the other one a little more: of STANDINGS
+# 18368 and 20416, of triples 197568 and 200704.
+MANY_STANDINGS = (wash_task(8, (6, 6, 6)), wash_task(8, (6, 6, 6), high=2))
+MANY_TRIPLES = (wash_task(7, (1, 1, 1), (2, 2, 3), 3, 1, (0,)), wash_task(8, (1, 1, 1), (2, 2, 2), 3, 1, (0,)))
+
+
+def literal_freed(task, standing, dues):
+    """The pair of the FREED TASK and the freed STANDING, by [65]."""
+    samples = tuple((steps, (None,) * len(steps)) if due == -1 else (steps, windows)
+                    for (steps, windows), due in zip(task[1], dues))
+    rests = tuple((done, 0) if due == -1 else (done, waited) for (done, waited), due in zip(standing[0], dues))
+    return (task[0], samples), (rests, standing[1])
+
+
+def literal_claim(game, dues, standing):
+    """The claim behind a tick that led to a STANDING, None if it is lost, by [65]."""
+    left = []
+    for due, (steps, _), (done, _) in zip(dues, game[1], standing[0]):
+        left.append(-1 if due == -1 or done == len(steps) else due - 1)
+    return None if 0 in left or literal_broken(game, standing) else (standing, tuple(left))
+
+
+@lru_cache(maxsize=None)
+def literal_claim_rows(game, claim, goes_on=False):
+    """For each MOVE, in order: it, and its LATENESSES with the claims behind, None of a lost one; nothing if kept."""
+    standing, dues = claim
+    if not goes_on and all(due == -1 for due in dues):
+        return ()
+    return tuple((move, tuple((late, literal_claim(game, dues, behind))
+                              for late, behind in literal_ticks(game, standing, move)))
+                 for move in literal_moves(game, standing))
+
+
+@lru_cache(maxsize=None)
+def literal_kept(game, claim):
+    """Whether a claim, None being a lost one, can be kept: some plan never loses it, whatever comes late."""
+    if claim is None:
+        return False
+    return all(due == -1 for due in claim[1]) or any(
+        all(literal_kept(game, behind) for _, behind in ends) for _, ends in literal_claim_rows(game, claim))
+
+
+def literal_can_be_kept(task, standing, dues):
+    """Whether DUES of a STANDING can be kept."""
+    game, here = literal_freed(task, standing, dues)
+    return not literal_broken(game, here) and literal_kept(game, (here, dues))
+
+
+def some_dues(rng, task, standing, many, most):
+    """Some DUES of a STANDING, mostly small."""
+    rows = [tuple(-1 if done == len(steps) or rng.random() < 0.3 else rng.randint(1, most)
+                  for (steps, _), (done, _) in zip(task[1], standing[0])) for _ in range(many)]
+    return tuple(dict.fromkeys(rows + [(-1,) * len(task[1])]))
+
+
+def near_values(value, rng, many):
+    """Nested tuples with a part left out, doubled, exchanged or changed, or another kind of thing in some place."""
+    found = []
+    for place in rng.sample(places(value)[1:], min(many, len(places(value)) - 1)):
+        part, above = at(value, place), at(value, place[:-1])
+        index = place[-1]
+        found.append(changed(value, place[:-1], above[:index] + above[index + 1:]))
+        found.append(changed(value, place[:-1], above[:index + 1] + above[index:]))
+        found.append(changed(value, place[:-1], above[:index] + above[index:index + 2][::-1] + above[index + 2:]))
+        if type(part) is int:
+            found += [changed(value, place, part + more) for more in (-1, 1)]
+            found.append(changed(value, place, part == 1))
+        if type(part) is tuple:
+            found.append(changed(value, place, list(part)))
+        found.append(changed(value, place, rng.choice(NEVER_RIGHT + (None,))))
+    return found
+
+
+def is_plain(value):
+    """Whether a value is told as [1] says: of plain kinds throughout."""
+    if type(value) is tuple:
+        return all(is_plain(part) for part in value)
+    return type(value) in (int, str, type(None))
+
+
+def refused(test, error, kept, call, *args):
+    """Check that a call raises just this error, and what it keeps."""
+    with test.assertRaises(error) as caught:
+        call(*args)
+    test.assertIs(type(caught.exception), error)
+    for name, value in kept.items():
+        told = getattr(caught.exception, name)
+        test.assertTrue(told is value or (type(told) is type(value) and told == value), (call.__name__, name, told))
+
+
+# Values that are no STANDING of any TASK above.
+WRONG_STANDINGS = NO_TUPLES + ((), ((), ()), (((0, 0),),), ((True, 0), (0, ())))

@@ -6,10 +6,18 @@ import inspect
 import os
 import unittest
 
-from tests.examples import DOC_LAB, GREAT_TASK, RUN, RUN_CHART, RUN_TASK, TASK
+from tests.examples import DOC_LAB, GREAT_TASK, PAPER_TASK, RUN, RUN_CHART, RUN_TASK, TASK
 from washedarms.forms import start
 
 START = start(RUN_TASK)
+LAST, OUT = (((2, 0),), ((0, ()),)), (((0, 0),), ((0, ("out",)),))
+STEP = ((0, "step", 0),)
+# Papers for PAPER_TASK, whose START is the same.
+RUNNING = (((0, 0),), ((0, ("step", 0, 1)),))
+PAPER = ((START, STEP, 2), (RUNNING, (), 1))
+TABLE = ((START, 1, ((), (), ((0, 0),))), (RUNNING, 0, ()))
+DUE_PAPER = ((START, (2,), STEP), (RUNNING, (1,), ()))
+DUE_TABLE = ((START, (1,), ((), (), ())),)
 LACK = ((1, 2, 1, ("stuff", 1)),)
 EVEN_TASK = ((((0,),), (), 2, 2, 0), ((((0, (0, 1), (), 1, 2),), (None,)),))
 # Module, function, parameters, and some rows of right arguments.
@@ -92,6 +100,48 @@ CALLS = (
     ("charts", "standing_of_chart", "task ticks chart", ((RUN_TASK, 4, RUN_CHART),)),
     ("charts", "run_of_chart", "task ticks chart", ((RUN_TASK, 4, RUN_CHART),)),
     ("chartchecks", "chart_fault", "task ticks chart", ((RUN_TASK, 4, RUN_CHART), (RUN_TASK, 4, [RUN_CHART]))),
+    ("comings", "what_comes", "task", ((RUN_TASK,),)),
+    ("comings", "least_run", "task standing", ((RUN_TASK, LAST), (RUN_TASK, OUT))),
+    ("comings", "closed_lot", "task standing", ((RUN_TASK, LAST), (RUN_TASK, OUT))),
+    ("comings", "lot_fault", "task lot", ((RUN_TASK, (START,)), (RUN_TASK, [START]))),
+    ("runcounts", "run_count", "task standing ticks", ((RUN_TASK, START, 3),)),
+    ("runcounts", "run_at", "task standing ticks number", ((RUN_TASK, START, 3, 7),)),
+    ("runcounts", "number_of_run", "task standing run", ((RUN_TASK, START, RUN),)),
+    ("webs", "web_row", "task standing", ((RUN_TASK, START),)),
+    ("ranks", "soonest", "task standing", ((RUN_TASK, START), (RUN_TASK, OUT))),
+    ("ranks", "rank_row", "task standing", ((RUN_TASK, START),)),
+    ("ranks", "move_worth", "task standing move", ((RUN_TASK, START, ()),)),
+    ("ranks", "best_moves", "task standing", ((RUN_TASK, START),)),
+    ("plans", "live_plan", "task standing", ((RUN_TASK, START), (RUN_TASK, OUT))),
+    ("plans", "worst_course", "task standing", ((RUN_TASK, START),)),
+    ("lateness", "lateness_table", "task standing ticks", ((RUN_TASK, START, 3), (RUN_TASK, OUT, None))),
+    ("dues", "dues_fault", "task standing value", ((RUN_TASK, START, (4,)), (RUN_TASK, START, [4]))),
+    ("dues", "need_dues", "task standing dues", ((RUN_TASK, START, (4,)),)),
+    ("dues", "freed_task", "task dues", ((RUN_TASK, (-1,)),)),
+    ("dues", "freed", "task standing dues", ((RUN_TASK, START, (-1,)),)),
+    ("dues", "after_claim", "task standing dues move late", ((RUN_TASK, START, (4,), STEP, ((0, 1),)),)),
+    ("dues", "can_be_kept", "task standing dues", ((RUN_TASK, START, (4,)), (RUN_TASK, START, (3,)))),
+    ("dues", "keeping_moves", "task standing dues", ((RUN_TASK, START, (5,)),)),
+    ("dues", "least_due", "task standing dues sample", ((RUN_TASK, START, (-1,), 0),)),
+    ("duepapers", "due_plan", "task standing dues", ((RUN_TASK, START, (4,)),)),
+    ("duepapers", "due_table", "task standing dues", ((RUN_TASK, START, (3,)),)),
+    ("planchecks", "plan_fault", "task paper", ((PAPER_TASK, PAPER), (PAPER_TASK, [PAPER]))),
+    ("planchecks", "is_live_plan", "task standing ticks paper", (
+        (PAPER_TASK, START, 2, PAPER), (PAPER_TASK, START, 2, [PAPER]))),
+    ("tablechecks", "table_fault", "task paper", ((PAPER_TASK, TABLE), (PAPER_TASK, [TABLE]))),
+    ("tablechecks", "is_lateness_table", "task standing ticks paper", (
+        (PAPER_TASK, START, 1, TABLE), (PAPER_TASK, START, None, [TABLE]))),
+    ("duechecks", "due_plan_fault", "task standing dues paper", (
+        (PAPER_TASK, START, (2,), DUE_PAPER), (PAPER_TASK, START, (2,), [DUE_PAPER]))),
+    ("duechecks", "due_table_fault", "task standing dues paper", (
+        (PAPER_TASK, START, (1,), DUE_TABLE), (PAPER_TASK, START, (2,), [DUE_TABLE]))),
+    ("duechecks", "is_due_plan", "task standing dues paper", (
+        (PAPER_TASK, START, (2,), DUE_PAPER), (PAPER_TASK, START, (2,), [DUE_PAPER]))),
+    ("duechecks", "is_due_table", "task standing dues paper", (
+        (PAPER_TASK, START, (1,), DUE_TABLE), (PAPER_TASK, START, (2,), [DUE_TABLE]))),
+    ("duechecks", "due_clash", "task standing dues plan table", (
+        (PAPER_TASK, START, (1,), ((START, (1,), STEP),), DUE_TABLE),)),
+    ("clashes", "clash", "task standing plan table", ((PAPER_TASK, START, ((START, STEP, 1),), TABLE),)),
 )
 
 

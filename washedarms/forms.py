@@ -7,14 +7,7 @@ from washedarms.tasks import need_task
 
 def standing_fault(task, value):
     """The fault of a value as a STANDING of the TASK, None if it is one."""
-    need_task(task)
-    if not is_tuple_of(value, 2):
-        return ("standing", ())
-    place = rests_place(task, value[0])
-    if place is not None:
-        return ("samples", (0,) + place)
-    place = tools_place(task, value[0], value[1])
-    return None if place is None else ("tools", (1,) + place)
+    return fault_here(need_task(task), value)
 
 
 def is_standing(task, value):
@@ -51,6 +44,22 @@ def waiting_counts(sample, done):
 def most_waited(sample, done):
     """The greatest WAITED that a SAMPLE may have when so many of its steps are done."""
     return sample[1][done] + 1 if waiting_counts(sample, done) else 0
+
+
+def fault_here(task, value):
+    """The fault of a value as a STANDING of a right TASK, None if it is one."""
+    if not is_tuple_of(value, 2):
+        return ("standing", ())
+    place = rests_place(task, value[0])
+    if place is not None:
+        return ("samples", (0,) + place)
+    place = tools_place(task, value[0], value[1])
+    return None if place is None else ("tools", (1,) + place)
+
+
+def stands(task, value):
+    """Whether a value is a STANDING of a right TASK."""
+    return fault_here(task, value) is None
 
 
 def rests_place(task, rests):

@@ -2,7 +2,7 @@
 
 from washedarms.errors import BadLateness, BadMove
 from washedarms.forms import waiting_counts
-from washedarms.moves import is_move_here, need_unbroken
+from washedarms.moves import is_move_here, moves_here, need_unbroken
 from washedarms.plain import is_tuple_of
 from washedarms.tasks import next_step
 
@@ -36,11 +36,7 @@ def need_move(task, standing, move):
 
 def latenesses_here(task, standing, move):
     """All LATENESSES of a right MOVE, in order."""
-    rows = [()]
-    for tool, pair in enumerate(pairs_run(standing, move)):
-        choices = endings_of(task, standing, tool, pair)
-        rows = [row + choice for row in rows for choice in choices]
-    return tuple(sorted(rows))
+    return tuple([late for late, behind in ticks_here(task, standing, move)])
 
 
 def is_lateness_here(task, standing, move, value):
@@ -86,18 +82,48 @@ def endings_of(task, standing, tool, pair):
     return choices
 
 
-def standing_behind(task, standing, move, lateness):
-    """The STANDING to which a right LATENESS of a right MOVE leads."""
-    ends = {tool: state for tool, state in lateness}
-    pairs = pairs_run(standing, move)
-    on = {job[1]: tool for tool, (state, job) in enumerate(pairs) if job[:1] == ("step",)}
+def rests_run(task, standing, pairs):
+    """The first thing of the STANDING behind a tick by which nothing ends, when its pairs of the tools are told."""
+    on = [job[1] for state, job in pairs if job[:1] == ("step",)]
     rests = []
     for sample, (done, waited) in enumerate(standing[0]):
-        if sample in on:
-            # A step's beginning and its end both set WAITED back.
-            rest = (done + 1 if on[sample] in ends else done, 0)
-        else:
-            rest = (done, waited + 1 if waiting_counts(task[1][sample], done) else 0)
-        rests = rests + [rest]
-    pairs = [(ends[tool], ()) if tool in ends else pair for tool, pair in enumerate(pairs)]
-    return (tuple(rests), tuple(pairs))
+        # A step's beginning sets WAITED back, so a sample that is on never waits.
+        waits = sample not in on and waiting_counts(task[1][sample], done)
+        rests.append((done, waited + 1 if waits else 0))
+    return tuple(rests)
+
+
+def ended(row, job, ending):
+    """What becomes of a triple (LATENESS, SAMPLES, TOOLS) when a JOB ends by a pair (TOOL, STATE), too."""
+    late, rests, pairs = row
+    tool, state = ending
+    if job[0] == "step":
+        sample = job[1]
+        rests = rests[:sample] + ((rests[sample][0] + 1, 0),) + rests[sample + 1:]
+    return (late + (ending,), rests, pairs[:tool] + ((state, ()),) + pairs[tool + 1:])
+
+
+def ticks_here(task, standing, move):
+    """All pairs of a LATENESS of a right MOVE and the STANDING to which it leads, in order."""
+    pairs = pairs_run(standing, move)
+    rows = [((), rests_run(task, standing, pairs), tuple(pairs))]
+    for tool, pair in enumerate(pairs):
+        found = []
+        for choice in endings_of(task, standing, tool, pair):
+            found = found + [row if choice == () else ended(row, pair[1], choice[0]) for row in rows]
+        rows = found
+    return [(late, (rests, behind)) for late, rests, behind in sorted(rows)]
+
+
+def ticks_from(task, standing):
+    """For each MOVE at a right STANDING that isn't broken, in order: the MOVE and what ticks_here tells of it."""
+    return [(move, ticks_here(task, standing, move)) for move in moves_here(task, standing)]
+
+
+def standing_behind(task, standing, move, lateness):
+    """The STANDING to which a right LATENESS of a right MOVE leads."""
+    pairs = pairs_run(standing, move)
+    row = ((), rests_run(task, standing, pairs), tuple(pairs))
+    for ending in lateness:
+        row = ended(row, pairs[ending[0]][1], ending)
+    return row[1:]
