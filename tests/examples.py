@@ -577,3 +577,198 @@ def refused(test, error, kept, call, *args):
 
 # Values that are no STANDING of any TASK above.
 WRONG_STANDINGS = NO_TUPLES + ((), ((), ()), (((0, 0),),), ((True, 0), (0, ())))
+
+
+# ORDERS: literal readings, and some of them.
+
+
+def job_names(order):
+    """The names of all jobs, ascending."""
+    return [(tool, place) for tool, row in enumerate(order[0]) for place in range(len(row))]
+
+
+def literal_links(task, order):
+    """The LINKS, by [602]."""
+    rows, holds = order
+    things = {(tool, place): thing for tool, row in enumerate(rows) for place, thing in enumerate(row)}
+    triples = [(first, 0, later) for first in things for later in things
+               if first[0] == later[0] and first[1] + 1 == later[1]]
+    triples += [(first, 0, later) for first in things for later in things
+                if things[first][0] == things[later][0] == "step" and things[first][1] == things[later][1]
+                and things[first][2] + 1 == things[later][2]]
+    triples += list(holds)
+    greatest = {}
+    for first, gap, later in triples:
+        greatest[first, later] = max(gap, greatest.get((first, later), -1))
+    triples = [(first, gap, later) for (first, later), gap in greatest.items()]
+    triples += [((), 0, job) for job in things if all(later != job for _, _, later in triples)]
+    return tuple(sorted(triples))
+
+
+def literal_led(task, order):
+    """For each job the jobs that it is led to, by going on until nothing new comes."""
+    links = literal_links(task, order)
+    led = {job: {later for first, _, later in links if first == job} for job in job_names(order)}
+    while True:
+        more = {job: led[job].union(*[led[other] for other in led[job]]) for job in led}
+        if more == led:
+            return led
+        led = more
+
+
+def literal_order_fault(task, order):
+    """The fault of an ORDER, by [603]."""
+    rows, _ = order
+    lab, samples = task
+    jobs = job_names(order)
+    things = {job: rows[job[0]][job[1]] for job in jobs}
+    for sample, (steps, _) in enumerate(samples):
+        for step in range(len(steps)):
+            if list(things.values()).count(("step", sample, step)) != 1:
+                return ("steps", sample, step)
+    steps = {job: samples[thing[1]][0][thing[2]] for job, thing in things.items() if thing[0] == "step"}
+    for job in jobs:
+        if job in steps and job[0] not in steps[job][1]:
+            return ("let", job)
+    led = literal_led(task, order)
+    if any(job in led[job] for job in jobs):
+        return ("ring",)
+    for tool, row in enumerate(rows):
+        states = {0}
+        for place, thing in enumerate(row):
+            if thing[0] == "wash":
+                states = {one for state in states for one in lab[1][thing[1]][0][state]}
+            else:
+                states = {lab[0][state][steps[tool, place][0]] for state in states}
+                if None in states:
+                    return ("state", (tool, place))
+    for job, other in combinations(jobs, 2):
+        if job in steps and other in steps and set(steps[job][2]) & set(steps[other][2]):
+            if other not in led[job] and job not in led[other]:
+                return ("zones", job, other)
+    for some in combinations(jobs, lab[3] + 1):
+        if not any(other in led[job] for job in some for other in some):
+            return ("arms", some)
+    return None
+
+
+def random_order(rng, task):
+    """Some ORDER of a TASK, often a SOUND one: steps in turn, washes where they are needed."""
+    lab, samples = task
+    rows = [[] for _ in range(lab[2])]
+    states = [{0} for _ in range(lab[2])]
+    left = [sample for sample, (steps, _) in enumerate(samples) for _ in steps]
+    rng.shuffle(left)
+    done = [0] * len(samples)
+    for sample in left:
+        step = samples[sample][0][done[sample]]
+        tool = rng.choice(step[1])
+        for _ in range(3):
+            if lab[1] and (any(lab[0][state][step[0]] is None for state in states[tool]) or rng.random() < 0.08):
+                wash = rng.randrange(len(lab[1]))
+                rows[tool].append(("wash", wash))
+                states[tool] = {one for state in states[tool] for one in lab[1][wash][0][state]}
+        rows[tool].append(("step", sample, done[sample]))
+        states[tool] = {lab[0][state][step[0]] for state in states[tool]} - {None} or {0}
+        done[sample] += 1
+    jobs = [(tool, place) for tool, row in enumerate(rows) for place in range(len(row))]
+    holds = {}
+    for _ in range(rng.choice((0, 0, 1, 2, 4))):
+        if jobs:
+            holds[rng.choice([()] * 3 + jobs), rng.choice(jobs)] = rng.choice((0, 1, 2, 5))
+    return (tuple(tuple(row) for row in rows),
+            tuple(sorted((first, gap, later) for (first, later), gap in holds.items())))
+
+
+@lru_cache(maxsize=None)
+def some_orders(seed, many, sound, **kinds):
+    """Some TASKS with ORDERS, all SOUND or none; those of a SOUND one of few enough FATES."""
+    rng = random.Random(seed)
+    found = []
+    while len(found) < many:
+        task = random_task(rng, **kinds)
+        order = random_order(rng, task)
+        if (literal_order_fault(task, order) is None) == sound and order[0] != ((),) * task[0][2]:
+            if not sound or 1 < fate_count(task, order) < 700:
+                found.append((task, order))
+    return tuple(found)
+
+
+def job_span(task, order, job):
+    """LOW and HIGH of a job."""
+    thing = order[0][job[0]][job[1]]
+    return task[1][thing[1]][0][thing[2]][3:] if thing[0] == "step" else task[0][1][thing[1]][1:]
+
+
+def fate_count(task, order):
+    """More than there are FATES, or as many."""
+    count = 1
+    for job in job_names(order):
+        low, high = job_span(task, order, job)
+        count *= (high - low + 1) * (3 if order[0][job[0]][job[1]][0] == "wash" else 1)
+    return count
+
+
+def all_fates(task, order):
+    """All FATES, by [604]."""
+    rows = []
+    for tool, row in enumerate(order[0]):
+        found = [((), 0)]
+        for place, thing in enumerate(row):
+            low, high = job_span(task, order, (tool, place))
+            longer = []
+            for told, state in found:
+                if thing[0] == "wash":
+                    behind = task[0][1][thing[1]][0][state]
+                else:
+                    behind = (task[0][0][state][task[1][thing[1]][0][thing[2]][0]],)
+                longer += [(told + ((ticks, pick),), one) for ticks in range(low, high + 1)
+                           for pick, one in enumerate(behind)]
+            found = longer
+        rows.append([told for told, _ in found])
+    return list(product(*rows))
+
+
+def literal_begins(task, order, fate):
+    """For each job the ticks at which it begins and ends, by [604]."""
+    links = literal_links(task, order)
+    spans = {}
+    while len(spans) < len(job_names(order)):
+        for job in job_names(order):
+            into = [(first, gap) for first, gap, later in links if later == job]
+            if job not in spans and all(first == () or first in spans for first, _ in into):
+                begin = max(gap if first == () else spans[first][1] + gap for first, gap in into)
+                spans[job] = (begin, begin + fate[job[0]][job[1]][0])
+    return spans
+
+
+def literal_ways(task, order, job):
+    """All WAYS to a job, ascending, by [605]."""
+    found = []
+    for first, _, later in literal_links(task, order):
+        if later == job:
+            found += [()] if first == () else [way + (first,) for way in literal_ways(task, order, first)]
+    return sorted(found)
+
+
+def job_of_step(order, sample, step):
+    """The job of a step of a SOUND ORDER."""
+    return [job for job in job_names(order) if order[0][job[0]][job[1]] == ("step", sample, step)][0]
+
+
+# The example under "Orders, worst waits, timetables, lists".
+TWO_LAB = (((0,),), (), 2, 2, 0)
+TWO_SAMPLE = (((0, (0, 1), (), 1, 2), (0, (0, 1), (), 1, 1)), (None, 1))
+TWO_TASK = (TWO_LAB, (TWO_SAMPLE, TWO_SAMPLE))
+TWO_ORDER = (((("step", 0, 0), ("step", 0, 1), ("step", 1, 1)), (("step", 1, 0),)), ())
+HELD_ORDER = (TWO_ORDER[0], (((), 1, (1, 0)),))
+# An ORDER of RUN_TASK with a wash.
+RUN_ORDER = (((("step", 0, 0), ("wash", 0), ("step", 0, 1)),), ())
+SOUND_ORDERS = ((TWO_TASK, TWO_ORDER), (TWO_TASK, HELD_ORDER), (RUN_TASK, RUN_ORDER),
+                (EMPTY_TASK, (((),), ()))) + some_orders(
+    500, 12, True, samples=2, steps=2, tools=2) + some_orders(
+    501, 12, True, samples=3, steps=2, tools=2, arms=2) + some_orders(
+    502, 8, True, samples=3, steps=2, tools=3, arms=3) + some_orders(503, 6, True, samples=2, steps=2, tools=1)
+OTHER_ORDERS = some_orders(504, 60, False, samples=2, steps=2, tools=2) + some_orders(
+    505, 40, False, samples=3, steps=2, tools=3, arms=2) + some_orders(
+    506, 20, False, samples=3, steps=1, zones=2, tools=3, arms=3)

@@ -6,7 +6,8 @@ import inspect
 import os
 import unittest
 
-from tests.examples import DOC_LAB, GREAT_TASK, PAPER_TASK, RUN, RUN_CHART, RUN_TASK, TASK
+from tests.examples import (
+    DOC_LAB, GREAT_TASK, PAPER_TASK, RUN, RUN_CHART, RUN_ORDER, RUN_TASK, TASK, TWO_ORDER, TWO_TASK)
 from washedarms.forms import start
 
 START = start(RUN_TASK)
@@ -18,6 +19,9 @@ PAPER = ((START, STEP, 2), (RUNNING, (), 1))
 TABLE = ((START, 1, ((), (), ((0, 0),))), (RUNNING, 0, ()))
 DUE_PAPER = ((START, (2,), STEP), (RUNNING, (1,), ()))
 DUE_TABLE = ((START, (1,), ((), (), ())),)
+FATE = (((2, 0), (1, 0), (1, 0)), ((1, 0),))
+KEEPING = ((((0, 0), (0, 1)), ((1, 0),)), (((1, 0),), ((1, 0),)))
+RENAMING = ((1, 0), (1, 0))
 LACK = ((1, 2, 1, ("stuff", 1)),)
 EVEN_TASK = ((((0,),), (), 2, 2, 0), ((((0, (0, 1), (), 1, 2),), (None,)),))
 # Module, function, parameters, and some rows of right arguments.
@@ -142,6 +146,57 @@ CALLS = (
     ("duechecks", "due_clash", "task standing dues plan table", (
         (PAPER_TASK, START, (1,), ((START, (1,), STEP),), DUE_TABLE),)),
     ("clashes", "clash", "task standing plan table", ((PAPER_TASK, START, ((START, STEP, 1),), TABLE),)),
+    ("trims", "trimmed_plan", "task standing paper", ((PAPER_TASK, START, PAPER),)),
+    ("trims", "trimmed_table", "task standing paper", ((PAPER_TASK, START, TABLE),)),
+    ("trims", "tight_plan", "task paper", ((PAPER_TASK, PAPER),)),
+    ("trims", "loose_table", "task paper", ((PAPER_TASK, TABLE),)),
+    ("paperjoins", "joined_plans", "task paper other", ((PAPER_TASK, PAPER, PAPER[1:]),)),
+    ("paperjoins", "joined_tables", "task paper other", ((PAPER_TASK, TABLE, TABLE[1:]),)),
+    ("histories", "ends", "task standing paper", ((PAPER_TASK, START, PAPER),)),
+    ("histories", "history_of", "task standing paper number", ((PAPER_TASK, START, PAPER, 1),)),
+    ("histories", "number_of", "task standing paper history", (
+        (PAPER_TASK, START, PAPER, (((0, 1),),)), (PAPER_TASK, START, PAPER, [((0, 1),)]))),
+    ("histories", "led", "task standing paper history", ((PAPER_TASK, START, PAPER, (((0, 1),),)),)),
+    ("links", "order_fault", "task order", ((TWO_TASK, TWO_ORDER),)),
+    ("links", "is_sound", "task order", ((TWO_TASK, TWO_ORDER),)),
+    ("links", "order_links", "task order", ((TWO_TASK, TWO_ORDER),)),
+    ("links", "led_jobs", "task order", ((TWO_TASK, TWO_ORDER),)),
+    ("ways", "way_count", "task order job", ((TWO_TASK, TWO_ORDER, (0, 2)),)),
+    ("ways", "ways_to", "task order job", ((TWO_TASK, TWO_ORDER, (0, 2)),)),
+    ("ways", "begins", "task order fate", ((TWO_TASK, TWO_ORDER, FATE),)),
+    ("waits", "worst_wait", "task order sample step", ((TWO_TASK, TWO_ORDER, 1, 1),)),
+    ("waits", "keeping_paper", "task order sample step window", ((TWO_TASK, TWO_ORDER, 1, 1, 2),)),
+    ("waits", "breaking_paper", "task order sample step window", ((TWO_TASK, TWO_ORDER, 1, 1, 1),)),
+    ("waits", "is_keeping", "task order sample step window paper", (
+        (TWO_TASK, TWO_ORDER, 1, 1, 2, KEEPING), (TWO_TASK, TWO_ORDER, 1, 1, 2, [KEEPING]))),
+    ("waits", "is_breaking", "task order sample step window paper", (
+        (TWO_TASK, TWO_ORDER, 1, 1, 1, ((0, 0), (0, 1))), (TWO_TASK, TWO_ORDER, 1, 1, 1, [(0, 0)]))),
+    ("ends", "worst_end", "task order", ((TWO_TASK, TWO_ORDER),)),
+    ("ends", "end_paper", "task order", ((TWO_TASK, TWO_ORDER),)),
+    ("ends", "is_end_paper", "task order ticks paper", (
+        (TWO_TASK, TWO_ORDER, 4, ((2, 3, 4), (2,))), (TWO_TASK, TWO_ORDER, 4, [(2, 3, 4), (2,)]))),
+    ("ends", "keeps_windows", "task order", ((TWO_TASK, TWO_ORDER),)),
+    ("timetables", "least_timetable", "task order", ((TWO_TASK, TWO_ORDER),)),
+    ("timetables", "ring_of", "task order", ((TWO_TASK, TWO_ORDER), (RUN_TASK, RUN_ORDER))),
+    ("timetables", "is_timetable", "task order paper", (
+        (TWO_TASK, TWO_ORDER, ((0, 2, 3), (1,))), (TWO_TASK, TWO_ORDER, [(0, 2, 3), (1,)]))),
+    ("timetables", "is_ring", "task order paper", ((RUN_TASK, RUN_ORDER, ()), (RUN_TASK, RUN_ORDER, []))),
+    ("timetables", "held_order", "task order paper", ((TWO_TASK, TWO_ORDER, ((0, 2, 3), (1,))),)),
+    ("playing", "play", "task order fate", ((TWO_TASK, TWO_ORDER, FATE),)),
+    ("playing", "order_of", "task history", ((RUN_TASK, RUN),)),
+    ("armrows", "arm_rows", "task order", ((TWO_TASK, TWO_ORDER),)),
+    ("armrows", "is_arm_rows", "task order paper", ((TWO_TASK, TWO_ORDER, ()), (TWO_TASK, TWO_ORDER, []))),
+    ("armrows", "is_unled", "task order jobs", ((TWO_TASK, TWO_ORDER, ((0, 1),)), (TWO_TASK, TWO_ORDER, [(0, 1)]))),
+    ("lists", "is_open", "task", ((EVEN_TASK,),)),
+    ("lists", "list_run", "task samples ticks", ((EVEN_TASK, (0,), ((2,),)),)),
+    ("renamings", "is_renaming", "task value", ((TWO_TASK, RENAMING), (TWO_TASK, [RENAMING]))),
+    ("renamings", "renamed_task", "task renaming", ((TWO_TASK, RENAMING),)),
+    ("renamings", "renamed_standing", "task standing renaming", ((TWO_TASK, start(TWO_TASK), RENAMING),)),
+    ("renamings", "renamed_move", "task standing move renaming", ((TWO_TASK, start(TWO_TASK), STEP, RENAMING),)),
+    ("renamings", "renamed_lateness", "task standing move lateness renaming", (
+        (TWO_TASK, start(TWO_TASK), STEP, ((0, 0),), RENAMING),)),
+    ("renamings", "joined_renaming", "task renaming other", ((TWO_TASK, RENAMING, RENAMING),)),
+    ("renamings", "undone_renaming", "task renaming", ((TWO_TASK, RENAMING),)),
 )
 
 

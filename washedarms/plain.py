@@ -40,6 +40,12 @@ def is_ascending(value, low, high):
     return type(value) is tuple and ascending_fault(value, low, high) is None
 
 
+def is_permutation(value, many):
+    """Whether a value is a tuple with the numbers from 0 to one less than so many, each once."""
+    return (is_tuple_of(value, many) and all([is_between(number, 0, many - 1) for number in value])
+            and sorted(value) == list(range(many)))
+
+
 def ascends(values):
     """Whether each of the values, which can be compared, is greater than the one ahead of it."""
     return all([values[index] < values[index + 1] for index in range(len(values) - 1)])

@@ -30,17 +30,7 @@ def is_plain(lab):
 
 def lot_chains(lab, lot):
     """A least number of CHAINS in which each USE of the LOT stands just once."""
-    later = later_uses(lab, lot)
-    ahead = greatest_matching(later)
-    behind = {ahead[use]: use for use in ahead}
-    chains = []
-    for use in later:
-        if use not in ahead:
-            chain = [use]
-            while chain[-1] in behind:
-                chain = chain + [behind[chain[-1]]]
-            chains = chains + [tuple(chain)]
-    return tuple(sorted(chains))
+    return fewest_chains(later_uses(lab, lot))
 
 
 def unfollowed(lab, lot):
@@ -135,6 +125,23 @@ def is_later(may, use, other):
     if use == other or not may[use[0]][other[0]]:
         return False
     return use < other or not may[other[0]][use[0]]
+
+
+def fewest_chains(later):
+    """The fewest chains, ascending, in which each thing stands just once, each followed by one later than it.
+
+    What is later than a thing must be later than all that the thing is later than.
+    """
+    ahead = greatest_matching(later)
+    behind = {ahead[use]: use for use in ahead}
+    chains = []
+    for use in later:
+        if use not in ahead:
+            chain = [use]
+            while chain[-1] in behind:
+                chain = chain + [behind[chain[-1]]]
+            chains = chains + [tuple(chain)]
+    return tuple(sorted(chains))
 
 
 def greatest_matching(later):
