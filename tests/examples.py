@@ -5,6 +5,8 @@ from functools import lru_cache
 from itertools import combinations, product
 
 from washedarms.forms import start
+from washedarms.lateness import lateness_table
+from washedarms.plans import live_plan
 
 # The least laboratory and the greatest one.
 LEAST_LAB = (((0,),), (), 1, 1, 0)
@@ -573,6 +575,45 @@ def refused(test, error, kept, call, *args):
     for name, value in kept.items():
         told = getattr(caught.exception, name)
         test.assertTrue(told is value or (type(told) is type(value) and told == value), (call.__name__, name, told))
+
+
+# Of RUN_TASK: a LIVE PLAN and a TABLE OF LATENESS, a broken STANDING, and one with the tool out of use.
+RUN_PLAN = ((RUN_STANDINGS[0], ((0, "step", 0),), 4), (RUN_STANDINGS[1], (), 3),
+            (RUN_STANDINGS[2], ((0, "wash", 0),), 2), (RUN_STANDINGS[3], ((0, "step", 0),), 1))
+RUN_TABLE = ((RUN_STANDINGS[0], 3, ((), (), ((0, 0),))), (RUN_STANDINGS[1], 2, (((0, 1),),)),
+             (RUN_STANDINGS[2], 1, ((), ((0, 0),))), (RUN_STANDINGS[3], 0, ()),
+             ((((1, 1),), ((1, ()),)), None, ((), ((0, 0),))))
+RUN_BROKEN, RUN_OUT = (((1, 2),), ((1, ()),)), (((0, 0),), ((0, ("out",)),))
+
+
+def wide_plans(task):
+    """Plan papers with rows of all STANDINGS that come and have a plan, their RANKS with gaps between them."""
+    rows = {}
+    for one in literal_met(start(task), lambda one: literal_rows(task, one))[0]:
+        for row in live_plan(task, one) or ():
+            rows[row[0]] = row
+    plan = tuple(rows[one] for one in sorted(rows))
+    # Any MOVE whose STANDINGS have lesser RANKS serves as well.
+    other = []
+    for one, move, rank in plan:
+        serving = [told for told, ends in literal_rows(task, one) if all(
+            literal_done(task, behind) or behind in rows and rows[behind][2] < rank for _, behind in ends)]
+        other.append((one, serving[-1], rank))
+    return plan, tuple(other), tuple((one, move, 3 * rank + 2) for one, move, rank in other)
+
+
+def wide_tables(task):
+    """Table papers with rows of all STANDINGS that come and are live, some with lesser LEFTS than they could have."""
+    rows = {}
+    for one in literal_met(start(task), lambda one: literal_rows(task, one))[0]:
+        for row in lateness_table(task, one, 0) or ():
+            rows[row[0]] = row
+    table = tuple(rows[one] for one in sorted(rows))
+    early = tuple((one, left if left is None else max(left - 1, 0), () if left in (0, 1) else answers)
+                  for one, left, answers in table)
+    # Halves of what they could be; 9 in the place of for ever.
+    return table, early, tuple((one, 9 if left is None else max(left // 2, min(left, 1)), answers)
+                               for one, left, answers in table)
 
 
 # Values that are no STANDING of any TASK above.

@@ -6,6 +6,7 @@ import unittest
 from tests.examples import (
     DOC_LAB, NO_TUPLES, PAPER_TASK, RUN_STANDINGS, RUN_TASK, SMALL_TASKS, WRONG_STANDINGS, changed, literal_broken,
     literal_done, literal_met, literal_rows, refused)
+from tests.examples import RUN_PLAN as PLAN, RUN_TABLE as TABLE
 from washedarms.clashes import clash
 from washedarms.errors import BadPaper, BadStanding, BadTask, TooGreat
 from washedarms.forms import start
@@ -16,9 +17,6 @@ from washedarms.tablechecks import table_fault
 
 FIRST, SECOND, THIRD, FOURTH, DONE = RUN_STANDINGS
 STEP, WASH = ((0, "step", 0),), ((0, "wash", 0),)
-PLAN = ((FIRST, STEP, 4), (SECOND, (), 3), (THIRD, WASH, 2), (FOURTH, STEP, 1))
-TABLE = ((FIRST, 3, ((), (), ((0, 0),))), (SECOND, 2, (((0, 1),),)), (THIRD, 1, ((), ((0, 0),))), (FOURTH, 0, ()),
-         ((((1, 1),), ((1, ()),)), None, ((), ((0, 0),))))
 
 
 def some_plan(rng, task, live):

@@ -5,13 +5,14 @@ import unittest
 
 from tests.examples import (
     DOC_LAB, EMPTY_TASK, NEVER_RIGHT, NO_TUPLES, PAPER_TASK, RUN_STANDINGS, RUN_TASK, SMALL_TASKS, WRONG_STANDINGS,
-    changed, literal_done, literal_rows, near_values, places, refused)
-from tests.test_trims import BROKEN, OUT, PLAN, STEP, wide_plans
+    changed, literal_done, literal_rows, near_values, places, refused, wide_plans)
+from tests.examples import RUN_BROKEN as BROKEN, RUN_OUT as OUT, RUN_PLAN as PLAN
 from washedarms.errors import BadHistory, BadNumber, BadPaper, BadStanding, BadTask, NoRow, TooGreat
 from washedarms.forms import start
 from washedarms.histories import ends, history_of, led, number_of
 
-FIRST, SECOND, THIRD, FOURTH, DONE = RUN_STANDINGS
+FIRST, DONE = RUN_STANDINGS[0], RUN_STANDINGS[4]
+STEP = ((0, "step", 0),)
 # The example under "Checkers of papers".
 A, B = (((0, 0),), ((0, ()),)), (((0, 0),), ((0, ("step", 0, 1)),))
 PAPER = ((A, STEP, 2), (B, (), 1))

@@ -2,8 +2,9 @@
 
 import unittest
 
-from tests.examples import DOC_LAB, NO_TUPLES, RUN_STANDINGS, RUN_TASK, SMALL_TASKS, changed, refused
-from tests.test_trims import OUT, PLAN, TABLE, wide_plans, wide_tables
+from tests.examples import (
+    DOC_LAB, NO_TUPLES, RUN_STANDINGS, RUN_TASK, SMALL_TASKS, changed, refused, wide_plans, wide_tables)
+from tests.examples import RUN_OUT as OUT, RUN_PLAN as PLAN, RUN_TABLE as TABLE
 from washedarms.errors import BadPaper, BadTask, TooGreat
 from washedarms.forms import start
 from washedarms.lateness import lateness_table

@@ -7,6 +7,7 @@ from unittest import mock
 from tests.examples import (
     DOC_LAB, EMPTY_TASK, NEVER_RIGHT, NO_TUPLES, RUN_STANDINGS, RUN_TASK, SMALL_TASKS, WRONG_STANDINGS, at, changed,
     is_plain, literal_broken, literal_done, literal_rows, near_values, places, refused, some_standings)
+from tests.examples import RUN_BROKEN as BROKEN, RUN_PLAN as PLAN
 from washedarms import planchecks
 from washedarms.errors import BadStanding, BadTask, BadTicks, TooGreat
 from washedarms.forms import is_standing, start
@@ -15,9 +16,7 @@ from washedarms.plans import live_plan
 from washedarms.ranks import soonest
 
 STEP, WASH = ((0, "step", 0),), ((0, "wash", 0),)
-FIRST, SECOND, THIRD, FOURTH, DONE = RUN_STANDINGS
-PLAN = ((FIRST, STEP, 4), (SECOND, (), 3), (THIRD, WASH, 2), (FOURTH, STEP, 1))
-BROKEN = (((1, 2),), ((1, ()),))
+FIRST, SECOND, _, FOURTH, DONE = RUN_STANDINGS
 
 
 def literal_fault(task, paper):

@@ -7,6 +7,7 @@ from unittest import mock
 from tests.examples import (
     DOC_LAB, EMPTY_TASK, NEVER_RIGHT, NO_TUPLES, RUN_STANDINGS, RUN_TASK, SMALL_TASKS, STUCK_TASK, WRONG_STANDINGS,
     at, changed, is_plain, literal_broken, literal_done, literal_rows, near_values, places, refused, some_standings)
+from tests.examples import RUN_BROKEN as BROKEN, RUN_OUT as OUT, RUN_TABLE as TABLE
 from washedarms import planchecks
 from washedarms.errors import BadStanding, BadTask, BadTicks, TooGreat
 from washedarms.forms import is_standing, start
@@ -14,10 +15,8 @@ from washedarms.lateness import lateness_table
 from washedarms.ranks import soonest
 from washedarms.tablechecks import is_lateness_table, table_fault
 
-FIRST, SECOND, THIRD, FOURTH, DONE = RUN_STANDINGS
-WAITS, BROKEN, OUT = (((1, 1),), ((1, ()),)), (((1, 2),), ((1, ()),)), (((0, 0),), ((0, ("out",)),))
-TABLE = ((FIRST, 3, ((), (), ((0, 0),))), (SECOND, 2, (((0, 1),),)), (THIRD, 1, ((), ((0, 0),))), (FOURTH, 0, ()),
-         (WAITS, None, ((), ((0, 0),))))
+FIRST, _, THIRD, FOURTH, DONE = RUN_STANDINGS
+WAITS = (((1, 1),), ((1, ()),))
 
 
 def literal_fault(task, paper):

@@ -6,51 +6,17 @@ from itertools import combinations
 
 from tests.examples import (
     DOC_LAB, EMPTY_TASK, LUCK_TASK, NO_TUPLES, RUN_STANDINGS, RUN_TASK, SMALL_TASKS, STUCK_TASK,
-    WRONG_STANDINGS, changed, literal_done, literal_met, literal_rows, refused)
+    WRONG_STANDINGS, changed, literal_rows, refused, wide_plans, wide_tables)
+from tests.examples import RUN_BROKEN as BROKEN, RUN_OUT as OUT, RUN_PLAN as PLAN, RUN_TABLE as TABLE
 from washedarms.errors import BadPaper, BadStanding, BadTask, NoRow, TooGreat
 from washedarms.forms import start
 from washedarms.lateness import lateness_table
 from washedarms.planchecks import is_live_plan, plan_fault
-from washedarms.plans import live_plan
 from washedarms.tablechecks import is_lateness_table, table_fault
 from washedarms.trims import loose_table, tight_plan, trimmed_plan, trimmed_table
 
 FIRST, SECOND, THIRD, FOURTH, DONE = RUN_STANDINGS
-STEP, WASH = ((0, "step", 0),), ((0, "wash", 0),)
-PLAN = ((FIRST, STEP, 4), (SECOND, (), 3), (THIRD, WASH, 2), (FOURTH, STEP, 1))
-WAITS, BROKEN, OUT = (((1, 1),), ((1, ()),)), (((1, 2),), ((1, ()),)), (((0, 0),), ((0, ("out",)),))
-TABLE = ((FIRST, 3, ((), (), ((0, 0),))), (SECOND, 2, (((0, 1),),)), (THIRD, 1, ((), ((0, 0),))), (FOURTH, 0, ()),
-         (WAITS, None, ((), ((0, 0),))))
-
-
-def wide_plans(task):
-    """Plan papers with rows of all STANDINGS that come and have a plan, their RANKS with gaps between them."""
-    rows = {}
-    for one in literal_met(start(task), lambda one: literal_rows(task, one))[0]:
-        for row in live_plan(task, one) or ():
-            rows[row[0]] = row
-    plan = tuple(rows[one] for one in sorted(rows))
-    # Any MOVE whose STANDINGS have lesser RANKS serves as well.
-    other = []
-    for one, move, rank in plan:
-        serving = [told for told, ends in literal_rows(task, one) if all(
-            literal_done(task, behind) or behind in rows and rows[behind][2] < rank for _, behind in ends)]
-        other.append((one, serving[-1], rank))
-    return plan, tuple(other), tuple((one, move, 3 * rank + 2) for one, move, rank in other)
-
-
-def wide_tables(task):
-    """Table papers with rows of all STANDINGS that come and are live, some with lesser LEFTS than they could have."""
-    rows = {}
-    for one in literal_met(start(task), lambda one: literal_rows(task, one))[0]:
-        for row in lateness_table(task, one, 0) or ():
-            rows[row[0]] = row
-    table = tuple(rows[one] for one in sorted(rows))
-    early = tuple((one, left if left is None else max(left - 1, 0), () if left in (0, 1) else answers)
-                  for one, left, answers in table)
-    # Halves of what they could be; 9 in the place of for ever.
-    return table, early, tuple((one, 9 if left is None else max(left // 2, min(left, 1)), answers)
-                               for one, left, answers in table)
+WAITS = (((1, 1),), ((1, ()),))
 
 
 def ends_behind(task, row, is_plan):

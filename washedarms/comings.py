@@ -64,9 +64,10 @@ def comings_of(task):
     ahead = [start(task)]
     turn = 0
     while turn < len(ahead):
-        for row, behind in rows_behind(task, ahead[turn]):
+        standing = ahead[turn]
+        for row, behind in rows_behind(task, standing):
             if behind not in found:
-                found[behind] = (ahead[turn], row)
+                found[behind] = (standing, row)
                 ahead.append(behind)
         if len(ahead) > MOST_NODES:
             raise TooGreat(MOST_NODES)

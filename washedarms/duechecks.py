@@ -29,10 +29,9 @@ def due_table_fault(task, standing, dues, paper):
 
 def is_due_plan(task, standing, dues, paper):
     """Whether a value is a DUE PLAN for a claim."""
-    game, here = freed(task, standing, dues)
     if due_plan_fault(task, standing, dues, paper) is not None:
         return False
-    return is_kept(dues) or (here, dues) in claim_places(paper)
+    return is_kept(dues) or (freed(task, standing, dues)[1], dues) in claim_places(paper)
 
 
 def is_due_table(task, standing, dues, paper):

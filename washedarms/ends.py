@@ -3,8 +3,8 @@
 from washedarms.errors import BadTicks
 from washedarms.links import in_rows, jobs_of, need_sound, step_of
 from washedarms.plain import is_from
-from washedarms.ways import begun_by, has_rows, links_in_turn, lows_and_highs
 from washedarms.waits import worst_of
+from washedarms.ways import begun_by, has_rows, links_in_turn, lows_and_highs
 
 
 def worst_end(task, order):

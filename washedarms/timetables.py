@@ -2,7 +2,7 @@
 
 from washedarms.errors import BadPaper, TooGreat
 from washedarms.links import MOST_GAP, gaps_of, in_rows, is_job, jobs_of, jobs_of_step, need_sound
-from washedarms.plain import is_from, is_tuple_of, is_worded
+from washedarms.plain import is_from, is_worded
 from washedarms.ways import has_rows, lows_and_highs
 
 
@@ -95,9 +95,10 @@ def settled(task, order):
     """
     added = conditions_of(task, order)
     ticks = start_gaps(task, order)
+    turns = len(ticks) + 1
     causes = {}
     last = None
-    for _ in range(len(ticks) + 1):
+    for _ in range(turns):
         last = None
         for condition in added:
             word, first, later = condition
