@@ -2,11 +2,12 @@
 
 import random
 from functools import lru_cache
-from itertools import combinations, product
+from itertools import combinations, permutations, product
 
 from washedarms.forms import start
 from washedarms.lateness import lateness_table
 from washedarms.plans import live_plan
+from washedarms.tasks import is_task
 
 # The least laboratory and the greatest one.
 LEAST_LAB = (((0,),), (), 1, 1, 0)
@@ -813,3 +814,550 @@ SOUND_ORDERS = ((TWO_TASK, TWO_ORDER), (TWO_TASK, HELD_ORDER), (RUN_TASK, RUN_OR
 OTHER_ORDERS = some_orders(504, 60, False, samples=2, steps=2, tools=2) + some_orders(
     505, 40, False, samples=3, steps=2, tools=3, arms=2) + some_orders(
     506, 20, False, samples=3, steps=1, zones=2, tools=3, arms=3)
+
+
+# Renamings, covers and partings: literal readings.
+
+
+def all_renamings(task):
+    """All RENAMINGS of a TASK."""
+    return [(samples, tools) for samples in permutations(range(len(task[1])))
+            for tools in permutations(range(task[0][2]))]
+
+
+def at_new_numbers(things, numbers):
+    """Things put one by one at their new numbers."""
+    found = list(things)
+    for number, thing in zip(numbers, things):
+        found[number] = thing
+    return tuple(found)
+
+
+def renamed_task_literally(task, renaming):
+    """The renamed TASK, by [701]."""
+    samples, tools = renaming
+    rows = [(tuple((stuff, tuple(sorted(tools[tool] for tool in named)), zones, low, high)
+                   for stuff, named, zones, low, high in steps), windows) for steps, windows in task[1]]
+    return (task[0], at_new_numbers(rows, samples))
+
+
+def renamed_standing_literally(standing, renaming):
+    """The renamed STANDING, by [701]."""
+    samples, tools = renaming
+    pairs = [(state, (job[0], samples[job[1]], job[2]) if job[:1] == ("step",) else job) for state, job in standing[1]]
+    return (at_new_numbers(standing[0], samples), at_new_numbers(pairs, tools))
+
+
+def renamed_move_literally(move, renaming):
+    """The renamed MOVE, by [701]."""
+    samples, tools = renaming
+    return tuple(sorted((tools[tool], word, samples[which] if word == "step" else which)
+                        for tool, word, which in move))
+
+
+def renamed_late_literally(late, renaming):
+    """The renamed LATENESS, by [701]."""
+    return tuple(sorted((renaming[1][tool], state) for tool, state in late))
+
+
+# TASKS with many SYMMETRIES, each with few STANDINGS that come.
+EVEN_LAB = (((1,), (0,)), ((((0,), (0, 1)), 1, 1),), 2, 2, 0)
+EVEN_SAMPLE = (((0, (0, 1), (), 1, 2),), (None,))
+TWIN_TASK = (EVEN_LAB, (EVEN_SAMPLE,) * 2)
+THREE_LAB = (((0,),), (), 3, 2, 1)
+THREE_TASK = (THREE_LAB, ((((0, (0, 1, 2), (), 1, 1), (0, (0, 1, 2), (0,), 1, 2)), (None, 1)),) * 2)
+# The samples are unlike, but the tools are not.
+TOOL_TASK = (EVEN_LAB, (EVEN_SAMPLE, (((0, (0, 1), (), 1, 1),), (None,))))
+# The tools change with the samples.
+CROSS_TASK = ((((0,),), ((((0,),), 1, 2),), 2, 2, 0), (
+    (((0, (0,), (), 1, 2), (0, (1,), (), 1, 1)), (None, 1)), (((0, (1,), (), 1, 2), (0, (0,), (), 1, 1)), (None, 1))))
+# A TASK with SYMMETRIES and no plan: each sample needs the tool that the other one makes useless.
+STUCK_TWINS = (((((1,), (None,))), (), 1, 1, 0), ((((0, (0,), (), 1, 2),), (None,)),) * 2)
+EVEN_TASKS = (TWIN_TASK, THREE_TASK, TOOL_TASK, CROSS_TASK, STUCK_TWINS, TWO_TASK)
+
+
+@lru_cache(maxsize=None)
+def literal_symmetries(task):
+    """All SYMMETRIES, by [702], ascending."""
+    return tuple(one for one in all_renamings(task) if renamed_task_literally(task, one) == task)
+
+
+@lru_cache(maxsize=None)
+def literal_form(task, standing):
+    """The form of a STANDING, by [702]."""
+    return min(renamed_standing_literally(standing, one) for one in literal_symmetries(task))
+
+
+@lru_cache(maxsize=None)
+def literal_comings(task):
+    """All STANDINGS that come, by [308]."""
+    return literal_met(start(task), lambda one: literal_rows(task, one))[0]
+
+
+@lru_cache(maxsize=None)
+def literal_pair_word(task, standing, other, place):
+    """What a pair of STANDINGS is, by [704]."""
+    if literal_done(task, standing) or literal_broken(other, place):
+        return "good"
+    return "bad" if literal_broken(task, standing) or literal_done(other, place) else "live"
+
+
+def literal_pairs(task, standing, other, place):
+    """All pairs that come from one, going on from live ones alone."""
+    found, ahead = {(standing, place)}, [(standing, place)]
+    for one, two in ahead:
+        if literal_pair_word(task, one, other, two) == "live":
+            ones = {behind for _, ends in literal_rows(task, one) for _, behind in ends}
+            for pair in product(ones, {behind for _, ends in literal_rows(other, two) for _, behind in ends}):
+                if pair not in found:
+                    found.add(pair)
+                    ahead.append(pair)
+    return found
+
+
+def literal_answers(task, one, other, table, behind):
+    """The MOVES at a STANDING that answer a MOVE that leads to these STANDINGS, by [705]."""
+    return [move for move, ends in literal_rows(task, one) if all(any(
+        (left, right) in table or literal_pair_word(task, left, other, right) == "good" for right in behind)
+        for _, left in ends)]
+
+
+def literal_is_covered(task, other, table, pair):
+    """Whether a pair keeps the rule of [705] by a table."""
+    word = literal_pair_word(task, pair[0], other, pair[1])
+    return word == "good" or (word == "live" and all(
+        literal_answers(task, pair[0], other, table, [right for _, right in ends])
+        for _, ends in literal_rows(other, pair[1])))
+
+
+def literal_cover(task, standing, other, place):
+    """All live pairs that come from one and are in some COVER, by dropping pairs until none breaks the rule."""
+    pairs = literal_pairs(task, standing, other, place)
+    left = {pair for pair in pairs if literal_pair_word(task, pair[0], other, pair[1]) == "live"}
+    while True:
+        kept = {pair for pair in left if literal_is_covered(task, other, left, pair)}
+        if kept == left:
+            return kept
+        left = kept
+
+
+def literal_parting_step(task, other, pair, below):
+    """The first MOVE and the first ANSWERS with which all that comes of a pair is below, by [709]; None if none are."""
+    for move, ends in literal_rows(other, pair[1]):
+        answers = []
+        for _, lefts in literal_rows(task, pair[0]):
+            serving = [late for late, left in lefts if all((left, right) in below for _, right in ends)]
+            answers += serving[:1]
+        if len(answers) == len(literal_rows(task, pair[0])):
+            return move, tuple(answers)
+    return None
+
+
+def literal_parting(task, standing, other, place):
+    """The PARTING that is told of a pair that is not live and good, nor in a COVER, by [709]; None otherwise."""
+    pairs = literal_pairs(task, standing, other, place)
+    words = {pair: literal_pair_word(task, pair[0], other, pair[1]) for pair in pairs}
+    below = {pair for pair in pairs if words[pair] == "bad"}
+    rows, rank = {}, 0
+    while True:
+        rank += 1
+        new = {}
+        for pair in pairs - below:
+            step = literal_parting_step(task, other, pair, below) if words[pair] == "live" else None
+            if step is not None:
+                new[pair] = pair + (rank,) + step
+        if not new:
+            break
+        rows.update(new)
+        below |= set(new)
+    if (standing, place) not in below:
+        return None
+    told, ahead = {}, [(standing, place)]
+    for pair in ahead:
+        if pair in rows and pair not in told:
+            told[pair] = rows[pair]
+            lefts = [dict(ends)[answer] for (_, ends), answer in zip(literal_rows(task, pair[0]), rows[pair][4])]
+            rights = [right for _, right in dict(literal_rows(other, pair[1]))[rows[pair][3]]]
+            ahead += list(product(lefts, rights))
+    return tuple(told[pair] for pair in sorted(told))
+
+
+# Pairs of TASKS with few pairs of STANDINGS, among them some with one thing changed.
+def near_task(rng, task):
+    """A TASK with one thing changed."""
+    for _ in range(100):
+        other = rng.choice(near_values(task, rng, 1))
+        if is_plain(other) and is_task(other) and other != task:
+            return other
+    return task
+
+
+@lru_cache(maxsize=None)
+def task_pairs(seed, many, most):
+    """Some pairs of TASKS, as unlike as they may be or with one thing changed, of which no more pairs come."""
+    rng = random.Random(seed)
+    found = []
+    while len(found) < many:
+        one = rng.choice(SMALL_TASKS + EVEN_TASKS)
+        two = rng.choice((rng.choice(SMALL_TASKS), near_task(rng, one), one))
+        if standings_within(one, start(one), most) and standings_within(two, start(two), most):
+            found.append((one, two) if rng.random() < 0.5 else (two, one))
+    return tuple(found)
+
+
+# The example under "Renamings, covers and partings": A takes 2 ticks, or 1; the stuffs of X, A and C are 0, 1 and 2.
+X_LAB = (((1, 0, 0), (0, 0, None)), ((((0,), (0,)), 2, 2),), 2, 2, 0)
+X_TASKS = tuple((X_LAB, ((((0, (0,), (), 1, 1), (1, (1,), (), ticks, ticks), (2, (0,), (), 1, 1)), (None, 0, 0)),))
+                for ticks in (2, 1))
+
+
+# The house and its logs: literal readings.
+EMPTY_SLOT = ((), ())
+# Two tools of which each does each step, slowly.
+SLOW_LAB = (((1, 0), (1, 1)), ((((0,), (0,)), 2, 3),), 2, 2, 0)
+SLOW_SAMPLE = (((0, (0, 1), (), 2, 3), (1, (0, 1), (), 1, 2)), (None, 3))
+# A tool that is washed for 1 to 2 ticks; steps with a window, a zone, a choice of tools, and short ones.
+HOUSE_LAB = (((1, 0), (1, None)), ((((0,), (0,)), 1, 2),), 2, 2, 1)
+LONG_SAMPLE = (((0, (0, 1), (), 1, 2), (1, (0,), (0,), 1, 1)), (None, 2))
+SHORT_SAMPLE = (((1, (1,), (), 1, 1),), (None,))
+ZONE_SAMPLE = (((0, (0,), (0,), 1, 1), (1, (0, 1), (), 1, 1)), (None, 0))
+# A tool that nothing washes but a step: the first stuff makes it useless for itself, the second one cleans it.
+STEP_LAB = (((1, 0), (None, 0)), (), 1, 1, 0)
+DIRTY_SAMPLE, CLEAN_SAMPLE = (((0, (0,), (), 1, 1),), (None,)), (((1, (0,), (), 1, 2),), (None,))
+# The second sample is needed by the third one, also when it is free.
+NEEDED_EVENTS = (("ask", DIRTY_SAMPLE), ("ask", CLEAN_SAMPLE), ("ask", DIRTY_SAMPLE), ("take", 1), ("waive", 1),
+                 ("take", 1), ("take", 0), ("tick", ()), ("take", 1))
+# A wash that may leave the tool as it was: nothing that needs it can be promised.
+LUCK_LAB = ((((1,), (None,))), ((((0,), (0, 1)), 1, 1),), 1, 1, 0)
+
+
+class LiteralHouse:
+    """A HOUSE as [801] to [804] tell of it: for each slot that isn't empty what is known of its sample."""
+
+    def __init__(self, house):
+        self.lab, slots, (rests, pairs), dues, told, self.count = house
+        self.tools = [list(pair) for pair in pairs]
+        self.slots = {}
+        for number, slot in told:
+            steps, windows = slots[slot]
+            self.slots[slot] = {"number": number, "steps": steps, "windows": windows, "done": rests[slot][0],
+                                "waited": rests[slot][1], "due": dues[slot]}
+
+    def told(self):
+        """The HOUSE."""
+        task, standing, dues = self.claim()
+        numbers = tuple(sorted((one["number"], slot) for slot, one in self.slots.items()))
+        return (self.lab, task[1], standing, dues, numbers, self.count)
+
+    def claim(self):
+        """The TASK, the STANDING and the DUES."""
+        rows = [self.slots.get(slot) for slot in range(4)]
+        samples = tuple((one["steps"], one["windows"]) if one else EMPTY_SLOT for one in rows)
+        rests = tuple((one["done"], one["waited"]) if one else (0, 0) for one in rows)
+        dues = tuple(one["due"] if one else -1 for one in rows)
+        return (self.lab, samples), (rests, tuple(tuple(pair) for pair in self.tools)), dues
+
+    def can_keep(self, **dues):
+        """Whether the claim can be kept."""
+        return literal_can_be_kept(*self.claim())
+
+    def slot_of(self, number):
+        """The slot of a sample, None if there is none."""
+        return {one["number"]: slot for slot, one in self.slots.items()}.get(number)
+
+    def runs(self, slot):
+        """Whether a step of the sample in a slot runs."""
+        return any(job[:2] == ("step", slot) for _, job in self.tools)
+
+    def put(self, sample, due):
+        """Take a sample in."""
+        slot = min(set(range(4)) - set(self.slots))
+        self.slots[slot] = {"number": self.count, "steps": sample[0], "windows": sample[1], "done": 0, "waited": 0,
+                            "due": due}
+        self.count += 1
+        return slot
+
+    def free(self, slot):
+        """The sample is free from now on."""
+        self.slots[slot].update(due=-1, waited=0, windows=(None,) * len(self.slots[slot]["steps"]))
+
+    def ask(self, sample):
+        """The words for an asked sample."""
+        if len(self.slots) == 4:
+            return (("full",),)
+        number = self.count
+        slot = self.put(sample, 1)
+        for due in range(1, 61):
+            self.slots[slot]["due"] = due
+            if self.can_keep():
+                return (("promised", number, due),)
+        del self.slots[slot]
+        self.count = number
+        return (("refused",),)
+
+    def move(self):
+        """The MOVE of [803], None if none keeps."""
+        task, standing, dues = self.claim()
+        keeping = [move for move in literal_moves(task, standing) if all(
+            literal_kept(task, literal_claim(task, dues, behind))
+            for _, behind in literal_ticks(task, standing, move))]
+        words = {move: [word for _, word, _ in move] for move in keeping}
+        return min(keeping, default=None, key=lambda move: (-words[move].count("step"), words[move].count("wash"),
+                                                            move))
+
+    def tick(self, move, late):
+        """What a tick does, but that samples which are done stay; every DUE above -1 is one less."""
+        task, standing, _ = self.claim()
+        rests, pairs = dict(literal_ticks(task, standing, move))[late]
+        self.tools = [list(pair) for pair in pairs]
+        for slot, one in self.slots.items():
+            one["done"], one["waited"] = rests[slot]
+            one["due"] -= one["due"] > -1
+
+    def finish(self):
+        """The words for samples that are done; they leave."""
+        done = sorted((one["number"], slot) for slot, one in self.slots.items() if one["done"] == len(one["steps"]))
+        for _, slot in done:
+            del self.slots[slot]
+        return tuple(("done", number) for number, _ in done)
+
+    def take(self, number):
+        """The words for a sample that is to be taken out."""
+        slot = self.slot_of(number)
+        if self.runs(slot):
+            return (("running", number),)
+        kept = self.slots.pop(slot)
+        if self.can_keep():
+            return (("taken", number),)
+        self.slots[slot] = kept
+        return (("needed", number),)
+
+    def smash(self, tool):
+        """The tool is out of use; the words for the sample that is spoilt."""
+        state, job = self.tools[tool]
+        self.tools[tool] = [state, ("out",)]
+        return (("spoilt", self.slots.pop(job[1])["number"]),) if job[:1] == ("step",) else ()
+
+    def sort_out(self):
+        """The words for the promises that are taken back behind a break."""
+        task, standing, dues = self.claim()
+        stay, words = [-1] * 4, ()
+        for number, slot in sorted((one["number"], slot) for slot, one in self.slots.items()):
+            if dues[slot] > -1:
+                stay[slot] = dues[slot]
+                if not literal_can_be_kept(task, standing, tuple(stay)):
+                    stay[slot] = -1
+                    self.free(slot)
+                    words += (("back", number),)
+        return words
+
+    def step(self, event):
+        """The words of an EVENT, which is done."""
+        word, rest = event[0], event[1:]
+        if word == "ask":
+            return self.ask(*rest)
+        if word == "tick":
+            self.tick(self.move(), *rest)
+            return self.finish()
+        if word == "waive":
+            self.free(self.slot_of(*rest))
+            return (("free",) + rest,)
+        if word == "take":
+            return self.take(*rest)
+        if word == "break":
+            return self.smash(*rest) + self.sort_out()
+        self.tools[rest[0]] = [rest[1], ()]
+        return (("mended", rest[0]),)
+
+    def replay(self, event, words):
+        """The word for an ENTRY that cannot be, which may be done by half; None if it can be: then it is done."""
+        call = getattr(self, "replay_" + event[0])
+        return call(*event[1:], words)
+
+    def replay_ask(self, sample, words):
+        if (len(self.slots) == 4) != (words == (("full",),)):
+            return "slots"
+        if words[0][0] == "promised":
+            if words[0][1] != self.count:
+                return "number"
+            self.put(sample, words[0][2])
+        return None
+
+    def replay_tick(self, move, late, words):
+        task, standing, _ = self.claim()
+        if move not in literal_moves(task, standing):
+            return "move"
+        if late not in dict(literal_ticks(task, standing, move)):
+            return "lateness"
+        self.tick(move, late)
+        if any(one["due"] == 0 and one["done"] < len(one["steps"]) for one in self.slots.values()):
+            return "late"
+        if literal_broken(*self.claim()[:2]):
+            return "window"
+        return None if self.finish() == words else "number"
+
+    def replay_waive(self, number, words):
+        if self.slot_of(number) is None:
+            return "number"
+        self.free(self.slot_of(number))
+        return None
+
+    def replay_take(self, number, words):
+        slot = self.slot_of(number)
+        if slot is None:
+            return "number"
+        if self.runs(slot) != (words == (("running", number),)):
+            return "running"
+        if words[0][0] == "taken":
+            del self.slots[slot]
+        return None
+
+    def replay_break(self, tool, words):
+        if self.tools[tool][1] == ("out",):
+            return "tool"
+        if self.smash(tool) != tuple(word for word in words if word[0] == "spoilt"):
+            return "number"
+        back = [number for word, number in words if word == "back"]
+        slots = {one["number"]: slot for slot, one in self.slots.items() if one["due"] > -1}
+        if back != sorted(set(back)) or not set(back) <= set(slots):
+            return "number"
+        for number in back:
+            self.free(slots[number])
+        return None
+
+    def replay_mend(self, tool, state, words):
+        if self.tools[tool][1] != ("out",):
+            return "tool"
+        self.tools[tool] = [state, ()]
+        return None
+
+
+def house_events(rng, house, samples):
+    """Some EVENT that may come to a HOUSE."""
+    model = LiteralHouse(house)
+    roll = rng.random()
+    numbers = [number for number, _ in house[4]]
+    if roll < 0.3:
+        return ("ask", rng.choice(samples))
+    if roll < 0.42 and numbers:
+        return (rng.choice(("waive", "take", "take")), rng.choice(numbers))
+    if roll < 0.54:
+        tool = rng.randrange(house[0][2])
+        if model.tools[tool][1] == ("out",):
+            return ("mend", tool, rng.randrange(len(house[0][0])))
+        if roll < 0.49:
+            return ("break", tool)
+    task, standing, _ = model.claim()
+    return ("tick", rng.choice(literal_ticks(task, standing, model.move()))[0])
+
+
+@lru_cache(maxsize=None)
+def house_runs():
+    """Some rows of EVENTS from the beginning on, with their LAB: tuples of triples (HOUSE, EVENT, WORDS)."""
+    runs = []
+    for seed, (lab, samples, many) in enumerate((
+            (HOUSE_LAB, (LONG_SAMPLE, SHORT_SAMPLE, ZONE_SAMPLE), 60), (HOUSE_LAB, (LONG_SAMPLE, ZONE_SAMPLE), 60),
+            (STEP_LAB, (DIRTY_SAMPLE, CLEAN_SAMPLE), 80), (STEP_LAB, (DIRTY_SAMPLE, DIRTY_SAMPLE, CLEAN_SAMPLE), 80),
+            (SLOW_LAB, (SLOW_SAMPLE, DIRTY_SAMPLE), 60), (SLOW_LAB, (SLOW_SAMPLE,), 60),
+            (LUCK_LAB, (DIRTY_SAMPLE,), 30),
+            (changed(HOUSE_LAB, (3,), 1), (LONG_SAMPLE, SHORT_SAMPLE), 60)) * 2):
+        rng = random.Random(800 + seed)
+        tools = ((0, ()),) * lab[2]
+        house = (lab, (EMPTY_SLOT,) * 4, (((0, 0),) * 4, tools), (-1,) * 4, (), 0)
+        rows = []
+        script = NEEDED_EVENTS if lab == STEP_LAB and seed > 8 else ()
+        for index in range(many):
+            event = script[index] if index < len(script) else house_events(rng, house, samples)
+            model = LiteralHouse(house)
+            words = model.step(event)
+            rows.append((house, event, words))
+            house = model.told()
+        runs.append((lab, tuple(rows), house))
+    return tuple(runs)
+
+
+@lru_cache(maxsize=None)
+def house_logs():
+    """LOGS of the runs: triples of the LAB, the ENTRIES and the HOUSES, the last one among them."""
+    return tuple((lab, tuple((("tick", LiteralHouse(house).move(), event[1]) if event[0] == "tick" else event, words)
+                             for house, event, words in rows), tuple(house for house, _, _ in rows) + (last,))
+                 for lab, rows, last in house_runs())
+
+
+def literal_is_entry(lab, value):
+    """Whether a value has the form of an ENTRY, by [901]."""
+    if not is_plain(value) or type(value) is not tuple or len(value) != 2 or type(value[0]) is not tuple:
+        return False
+    event, words = value
+    if type(words) is not tuple or not all(type(word) is tuple and word for word in words):
+        return False
+    kinds = [tuple(type(part) for part in word) for word in words]
+    told = [word[0] for word in words]
+    tools, states = range(lab[2]), range(len(lab[0]))
+    if not all(0 <= word[1] < 10 ** 18 for word, kind in zip(words, kinds) if kind[1:2] == (int,)):
+        return False
+    pairs = all(kind == (str, int) for kind in kinds)
+    if event[:1] == ("ask",):
+        if len(event) != 2 or not is_task((lab, (event[1],))) or not event[1][0] or len(words) != 1:
+            return False
+        return words[0] in (("full",), ("refused",)) or (
+            kinds[0] == (str, int, int) and told == ["promised"] and 1 <= words[0][2] <= 60)
+    if event[:1] == ("tick",):
+        if len(event) != 3 or not all(type(part) is tuple for part in event[1:]):
+            return False
+        for begin in event[1]:
+            if type(begin) is not tuple or [type(part) for part in begin] != [int, str, int] or begin[0] not in tools:
+                return False
+            if begin[2] not in {"step": range(4), "wash": range(len(lab[1]))}.get(begin[1], ()):
+                return False
+        for pair in event[2]:
+            if type(pair) is not tuple or [type(part) for part in pair] != [int, int]:
+                return False
+            if pair[0] not in tools or pair[1] not in states:
+                return False
+        rows = [[thing[0] for thing in event[1]], [pair[0] for pair in event[2]]]
+        rows += [[word[1] for word in words]] if pairs and set(told) <= {"done"} else [[1, 0]]
+        return all(row == sorted(set(row)) for row in rows)
+    if event[:1] in (("waive",), ("take",)):
+        right = {"waive": ["free"], "take": ["taken", "needed", "running"]}[event[0]]
+        return (len(event) == 2 and type(event[1]) is int and 0 <= event[1] < 10 ** 18 and pairs
+                and words in tuple(((word, event[1]),) for word in right))
+    if event[:1] == ("break",):
+        if len(event) != 2 or type(event[1]) is not int or event[1] not in tools or not pairs:
+            return False
+        return told in (["back"] * len(words), ["spoilt"] + ["back"] * (len(words) - 1)) and len(
+            {word[1] for word in words}) == len(words)
+    if event[:1] == ("mend",):
+        return (len(event) == 3 and type(event[1]) is int and event[1] in tools and type(event[2]) is int
+                and event[2] in states and pairs and words == (("mended", event[1]),))
+    return False
+
+
+def literal_replay(lab, entries):
+    """The HOUSES of right ENTRIES up to the first that cannot be, and its index and word, None if there is none."""
+    tools = ((0, ()),) * lab[2]
+    houses = [(lab, (EMPTY_SLOT,) * 4, (((0, 0),) * 4, tools), (-1,) * 4, (), 0)]
+    for index, (event, words) in enumerate(entries):
+        model = LiteralHouse(houses[-1])
+        why = model.replay(event, words)
+        if why is not None:
+            return tuple(houses), (index, why)
+        houses.append(model.told())
+    return tuple(houses), None
+
+
+def other_logs(rng, lab, entries, many):
+    """LOGS with an ENTRY left out, doubled, exchanged or changed in one thing, as far as they have the form of one."""
+    found = []
+    while len(found) < many:
+        place = rng.randrange(len(entries))
+        roll = rng.random()
+        if roll < 0.2:
+            other = entries[:place] + entries[place + 1:]
+        elif roll < 0.4:
+            other = entries[:place] + (rng.choice(entries),) + entries[place + rng.randint(0, 1):]
+        else:
+            other = changed(entries, (place,), rng.choice(near_values(entries[place], rng, 2)))
+        if literal_is_entry(lab, other[min(place, len(other) - 1)]) if other else True:
+            found.append(other)
+    return found

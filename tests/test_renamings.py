@@ -2,11 +2,11 @@
 
 import random
 import unittest
-from itertools import permutations
 
 from tests.examples import (
     DOC_LAB, EMPTY_TASK, GREAT_TASK, NEVER_RIGHT, NO_TUPLES, RUN_TASK, SMALL_TASKS, TASK, TWO_TASK, WRONG_STANDINGS,
-    changed, is_plain, literal_broken, literal_moves, literal_ticks, near_values, random_tasks, refused, some_standings)
+    all_renamings, changed, is_plain, literal_broken, literal_moves, literal_ticks, near_values, random_tasks, refused,
+    renamed_late_literally, renamed_move_literally, renamed_standing_literally, renamed_task_literally, some_standings)
 from washedarms.errors import BadLateness, BadMove, BadRenaming, BadStanding, BadTask, Broken
 from washedarms.forms import is_standing, start
 from washedarms.moves import is_move
@@ -19,47 +19,6 @@ from washedarms.ticks import after, is_lateness
 TASKS = SMALL_TASKS[6:20] + (TWO_TASK, TASK) + tuple(random_tasks(580, 10, samples=3, steps=2, tools=3, arms=2))
 
 
-def all_renamings(task):
-    """All RENAMINGS of a TASK."""
-    return [(samples, tools) for samples in permutations(range(len(task[1])))
-            for tools in permutations(range(task[0][2]))]
-
-
-def at_new_numbers(things, numbers):
-    """Things put one by one at their new numbers."""
-    found = list(things)
-    for number, thing in zip(numbers, things):
-        found[number] = thing
-    return tuple(found)
-
-
-def literal_task(task, renaming):
-    """The renamed TASK, by [701]."""
-    samples, tools = renaming
-    rows = [(tuple((stuff, tuple(sorted(tools[tool] for tool in named)), zones, low, high)
-                   for stuff, named, zones, low, high in steps), windows) for steps, windows in task[1]]
-    return (task[0], at_new_numbers(rows, samples))
-
-
-def literal_standing(standing, renaming):
-    """The renamed STANDING, by [701]."""
-    samples, tools = renaming
-    pairs = [(state, (job[0], samples[job[1]], job[2]) if job[:1] == ("step",) else job) for state, job in standing[1]]
-    return (at_new_numbers(standing[0], samples), at_new_numbers(pairs, tools))
-
-
-def literal_move(move, renaming):
-    """The renamed MOVE, by [701]."""
-    samples, tools = renaming
-    return tuple(sorted((tools[tool], word, samples[which] if word == "step" else which)
-                        for tool, word, which in move))
-
-
-def literal_late(late, renaming):
-    """The renamed LATENESS, by [701]."""
-    return tuple(sorted((renaming[1][tool], state) for tool, state in late))
-
-
 class RenamedTest(unittest.TestCase):
     def test_by_the_words(self):
         rng = random.Random(581)
@@ -68,7 +27,7 @@ class RenamedTest(unittest.TestCase):
             for renaming in rng.sample(renamings, min(4, len(renamings))):
                 self.assertIs(is_renaming(task, renaming), True)
                 other = renamed_task(task, renaming)
-                self.assertEqual(other, literal_task(task, renaming))
+                self.assertEqual(other, renamed_task_literally(task, renaming))
                 self.assertTrue(is_task(other))
                 for standing in some_standings(task, 3)[:6] if len(task[1]) < 3 else (start(task),):
                     self.check_standing(task, other, standing, renaming, rng)
@@ -76,7 +35,7 @@ class RenamedTest(unittest.TestCase):
     def check_standing(self, task, other, standing, renaming, rng):
         """What is renamed belongs to the renamed TASK, and after leads from renamed things to what is renamed."""
         told = renamed_standing(task, standing, renaming)
-        self.assertEqual(told, literal_standing(standing, renaming))
+        self.assertEqual(told, renamed_standing_literally(standing, renaming))
         self.assertTrue(is_standing(other, told))
         if literal_broken(task, standing):
             refused(self, Broken, {}, renamed_move, task, standing, "x", "y")
@@ -85,12 +44,12 @@ class RenamedTest(unittest.TestCase):
         moves = literal_moves(task, standing)
         for move in rng.sample(moves, min(5, len(moves))):
             begun = renamed_move(task, standing, move, renaming)
-            self.assertEqual(begun, literal_move(move, renaming))
+            self.assertEqual(begun, renamed_move_literally(move, renaming))
             self.assertTrue(is_move(other, told, begun))
             ticks = literal_ticks(task, standing, move)
             for late, behind in rng.sample(ticks, min(4, len(ticks))):
                 ended = renamed_lateness(task, standing, move, late, renaming)
-                self.assertEqual(ended, literal_late(late, renaming))
+                self.assertEqual(ended, renamed_late_literally(late, renaming))
                 self.assertTrue(is_lateness(other, told, begun, ended))
                 self.assertEqual(after(other, told, begun, ended), renamed_standing(task, behind, renaming))
 

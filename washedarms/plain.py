@@ -51,6 +51,11 @@ def ascends(values):
     return all([values[index] < values[index + 1] for index in range(len(values) - 1)])
 
 
+def replaced(things, index, new):
+    """Things with another one at an index."""
+    return things[:index] + (new,) + things[index + 1:]
+
+
 def span_fault(low, high):
     """0 if low is wrong as a LOW, 1 if high is wrong as its HIGH, otherwise None."""
     if not is_between(low, 1, 6):

@@ -8,17 +8,7 @@ def live_plan(task, standing):
     """The PLAN told: () of a done STANDING, None without a RANK."""
     need_standing(task, standing)
     nodes, rows, ranks = ranked_web(task, standing)
-    if ranks[0] is None:
-        return None
-    found = {}
-    ahead = [0]
-    while ahead:
-        place = ahead.pop()
-        if ranks[place] > 0 and place not in found:
-            move, ends = first_best(rows[place], ranks, ranks[place])
-            found[place] = move
-            ahead.extend([behind for late, behind in ends])
-    return tuple(sorted([(nodes[place], found[place], ranks[place]) for place in found]))
+    return plan_of_web(nodes, rows, ranks)
 
 
 def worst_course(task, standing):
@@ -34,6 +24,21 @@ def worst_course(task, standing):
         late, place = [end for end in ends if ranks[end[1]] == ranks[place] - 1][0]
         course.append((move, late))
     return tuple(course)
+
+
+def plan_of_web(nodes, rows, ranks):
+    """The PLAN told from the first node of a web, None without a RANK."""
+    if ranks[0] is None:
+        return None
+    found = {}
+    ahead = [0]
+    while ahead:
+        place = ahead.pop()
+        if ranks[place] > 0 and place not in found:
+            move, ends = first_best(rows[place], ranks, ranks[place])
+            found[place] = move
+            ahead.extend([behind for late, behind in ends])
+    return tuple(sorted([(nodes[place], found[place], ranks[place]) for place in found]))
 
 
 def first_best(moves, ranks, rank):

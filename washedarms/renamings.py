@@ -17,23 +17,21 @@ def is_renaming(task, value):
 def renamed_task(task, renaming):
     """The renamed TASK."""
     need_renaming(task, renaming)
-    samples = [(tuple([renamed_step(step, renaming) for step in steps]), windows) for steps, windows in task[1]]
-    return (task[0], moved(samples, renaming[0]))
+    return task_by(task, renaming)
 
 
 def renamed_standing(task, standing, renaming):
     """The renamed STANDING."""
     need_standing(task, standing)
     need_renaming(task, renaming)
-    pairs = [(state, renamed_job(job, renaming)) for state, job in standing[1]]
-    return (moved(standing[0], renaming[0]), moved(pairs, renaming[1]))
+    return standing_by(standing, renaming)
 
 
 def renamed_move(task, standing, move, renaming):
     """The renamed MOVE."""
     need_move(task, standing, move)
     need_renaming(task, renaming)
-    return tuple(sorted([(renaming[1][begin[0]],) + renamed_job(begin[1:], renaming) for begin in move]))
+    return move_by(move, renaming)
 
 
 def renamed_lateness(task, standing, move, lateness, renaming):
@@ -63,6 +61,27 @@ def need_renaming(task, renaming):
     """Refuse what is no TASK, or no RENAMING of it."""
     if not is_renaming(task, renaming):
         raise BadRenaming()
+
+
+def task_by(task, renaming):
+    """The renamed TASK of right things."""
+    samples = [(tuple([renamed_step(step, renaming) for step in steps]), windows) for steps, windows in task[1]]
+    return (task[0], moved(samples, renaming[0]))
+
+
+def standing_by(standing, renaming):
+    """The renamed STANDING of right things."""
+    return (moved(standing[0], renaming[0]), tools_by(standing[1], renaming))
+
+
+def tools_by(pairs, renaming):
+    """The renamed second thing of a right STANDING."""
+    return moved([(state, renamed_job(job, renaming)) for state, job in pairs], renaming[1])
+
+
+def move_by(move, renaming):
+    """The renamed MOVE of right things."""
+    return tuple(sorted([(renaming[1][begin[0]],) + renamed_job(begin[1:], renaming) for begin in move]))
 
 
 def moved(things, numbers):

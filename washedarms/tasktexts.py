@@ -8,8 +8,8 @@ from washedarms.tasks import need_task
 class LineReader:
     """Reads a text word by word; what can't stand next is refused with its place.
 
-    Each number in a text is one of a few, so words are compared with what may
-    stand there and a number of thousands of figures is never worked out.
+    Most numbers in a text are one of a few, so words are compared with what
+    may stand there and a number of thousands of figures is never worked out.
     """
 
     def __init__(self, text):
@@ -34,6 +34,18 @@ class LineReader:
     def take_number(self, low, high):
         """The next word, which must be a number from low to high."""
         return int(self.take([str(number) for number in range(low, high + 1)]))
+
+    def take_whole(self, low, high, besides):
+        """The next word, which must be a number from low to high, which may be a great one, and none of some others."""
+        word = self.ahead()
+        # A word of thousands of figures must not be worked out.
+        if not is_whole(word) or len(word) > len(str(high)):
+            raise BadText(self.at, self.column)
+        number = int(word)
+        if not low <= number <= high or number in besides:
+            raise BadText(self.at, self.column)
+        self.column += 1
+        return number
 
     def take_ascending(self, low, high, most, ending):
         """Ascending numbers, at least one and so many at most, up to the ending, which is left."""
@@ -95,6 +107,13 @@ def task_text_fault(text):
             raise
         return (bad.line, bad.word)
     return None
+
+
+def is_whole(word):
+    """Whether the next word of a line, None where there is none, is an integer in figures, without needless zeros."""
+    if word is None or word == "" or not all([sign in "0123456789" for sign in word]):
+        return False
+    return word == "0" or word[0] != "0"
 
 
 def lab_rows(lab):

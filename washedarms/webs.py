@@ -26,11 +26,12 @@ def standing_web(task, standing):
     return web_from(standing, lambda one: ticks_from(task, one) if live_here(task, one) else [])
 
 
-def web_from(first, ticks_at):
+def web_from(first, ticks_at, counts_triples=True):
     """All that comes from a first node: the nodes in the order in which they are met, and for each its MOVES.
 
     A MOVE is told as a pair (MOVE, ENDS), ENDS with a pair (LATENESS, PLACE) for each LATENESS: the place of the
     node to which it leads, None if that is lost. ticks_at tells the same of a node with nodes in place of places.
+    Where triples aren't counted, nodes alone can be too many.
     """
     nodes = [first]
     places = {first: 0}
@@ -42,7 +43,7 @@ def web_from(first, ticks_at):
         triples += sum([len(ends) for move, ends in ticks])
         if len(nodes) > MOST_NODES:
             raise TooGreat(MOST_NODES)
-        if triples > MOST_TRIPLES:
+        if counts_triples and triples > MOST_TRIPLES:
             raise TooGreat(MOST_TRIPLES)
     return (nodes, rows)
 
