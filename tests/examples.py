@@ -1361,3 +1361,20 @@ def other_logs(rng, lab, entries, many):
         if literal_is_entry(lab, other[min(place, len(other) - 1)]) if other else True:
             found.append(other)
     return found
+
+
+def idle_logs(rng, lab, entries):
+    """Beginnings of a LOG behind which nothing is begun any more, but what runs ends as soon as it may."""
+    found = []
+    for _ in range(12):
+        rows = entries[:rng.randrange(len(entries))]
+        houses, fault = literal_replay(lab, rows)
+        while fault is None and len(rows) < 100 and any(due > -1 for due in houses[-1][3]):
+            task, standing, _ = LiteralHouse(houses[-1]).claim()
+            late = literal_ticks(task, standing, ())[-1][0]
+            model = LiteralHouse(houses[-1])
+            model.tick((), late)
+            rows += ((("tick", (), late), model.finish()),)
+            houses, fault = literal_replay(lab, rows)
+        found.append(rows)
+    return found

@@ -7,8 +7,14 @@ import os
 import unittest
 
 from tests.examples import (
-    DOC_LAB, GREAT_TASK, PAPER_TASK, RUN, RUN_CHART, RUN_ORDER, RUN_TASK, TASK, TWO_ORDER, TWO_TASK)
+    DOC_LAB, GREAT_TASK, HOUSE_LAB, LONG_SAMPLE, PAPER_TASK, RUN, RUN_CHART, RUN_ORDER, RUN_TASK, TASK, TWO_ORDER,
+    TWO_TASK)
 from washedarms.forms import start
+from washedarms.houses import house_new
+from washedarms.housing import house_step
+from washedarms.judges import log_of, papers_of
+from washedarms.loglines import log_text
+from washedarms.tinytasks import tiny_task
 
 START = start(RUN_TASK)
 LAST, OUT = (((2, 0),), ((0, ()),)), (((0, 0),), ((0, ("out",)),))
@@ -24,6 +30,20 @@ KEEPING = ((((0, 0), (0, 1)), ((1, 0),)), (((1, 0),), ((1, 0),)))
 RENAMING = ((1, 0), (1, 0))
 LACK = ((1, 2, 1, ("stuff", 1)),)
 EVEN_TASK = ((((0,),), (), 2, 2, 0), ((((0, (0, 1), (), 1, 2),), (None,)),))
+# TWIN is a TASK with two SYMMETRIES; EASY is easier than PAPER_TASK.
+TWIN = (PAPER_TASK[0], PAPER_TASK[1] * 2)
+EASY = (PAPER_TASK[0], ((((0, (0,), (), 1, 1),), (None,)),))
+COVER = ((START, START),)
+PARTING = ((START, START, 1, STEP, ((), (), ((0, 0),))),)
+HOUSE = house_new(HOUSE_LAB)
+ASKED = house_step(HOUSE, ("ask", LONG_SAMPLE))[0]
+FULL_EVENTS = (("ask", LONG_SAMPLE), ("ask", LONG_SAMPLE), ("tick", ((1, 1),)), ("break", 0))
+LOG = log_of(HOUSE_LAB, FULL_EVENTS)
+LOG_PAPERS = papers_of(HOUSE_LAB, LOG)
+MISSED = LOG[:1] + ((("tick", (), ()), ()),) * 3
+LOG_TEXT = log_text(HOUSE_LAB, LOG)
+SHAPE = (1, 2, 1, 1, 0, (1, 1), 1, -1)
+WHAT = ("step", 0, 0)
 # Module, function, parameters, and some rows of right arguments.
 CALLS = (
     ("labs", "lab_fault", "value", (([1],), (DOC_LAB,))),
@@ -197,6 +217,62 @@ CALLS = (
         (TWO_TASK, start(TWO_TASK), STEP, ((0, 0),), RENAMING),)),
     ("renamings", "joined_renaming", "task renaming other", ((TWO_TASK, RENAMING, RENAMING),)),
     ("renamings", "undone_renaming", "task renaming", ((TWO_TASK, RENAMING),)),
+    ("symmetries", "symmetries", "task", ((TWIN,),)),
+    ("symmetries", "form_of", "task standing", ((TWO_TASK, start(TWO_TASK)),)),
+    ("symmetries", "alike", "task standing other", ((TWO_TASK, start(TWO_TASK), start(TWO_TASK)),)),
+    ("classes", "fixed_count", "task symmetry", ((TWIN, ((1, 0), (0,))),)),
+    ("classes", "classes", "task", ((TWIN,),)),
+    ("classes", "class_ranks", "task", ((TWIN,),)),
+    ("classes", "class_plan", "task", ((TWIN,),)),
+    ("classes", "spread_plan", "task", ((TWIN,),)),
+    ("covers", "pair_word", "task standing other place", ((RUN_TASK, LAST, PAPER_TASK, START),)),
+    ("covers", "cover_fault", "task other cover", ((PAPER_TASK, PAPER_TASK, COVER), (RUN_TASK, PAPER_TASK, [COVER]))),
+    ("partings", "parting_fault", "task other parting", (
+        (PAPER_TASK, PAPER_TASK, PARTING), (PAPER_TASK, PAPER_TASK, [PARTING]))),
+    ("comparing", "compared", "task standing other place", (
+        (EASY, START, PAPER_TASK, START), (PAPER_TASK, START, EASY, START))),
+    ("easier", "is_easier", "task other", ((EASY, PAPER_TASK), (PAPER_TASK, EASY))),
+    ("easier", "led_standing", "task other place", ((EASY, PAPER_TASK, START), (EASY, PAPER_TASK, RUNNING))),
+    ("easier", "easier_cover", "task other", ((EASY, PAPER_TASK),)),
+    ("leading", "joined_covers", "task other third cover paper", ((EASY, EASY, PAPER_TASK, COVER, COVER),)),
+    ("leading", "united_covers", "task other cover paper", ((EASY, PAPER_TASK, COVER, COVER),)),
+    ("leading", "led_plan", "task other cover plan", ((EASY, PAPER_TASK, COVER, PAPER),)),
+    ("houses", "house_new", "lab", ((HOUSE_LAB,),)),
+    ("houses", "house_faults", "value", ((ASKED,), ([ASKED],))),
+    ("houses", "need_house", "house", ((ASKED,),)),
+    ("houses", "house_task", "house", ((ASKED,),)),
+    ("housemoves", "house_move", "house", ((ASKED,),)),
+    ("housemoves", "house_latenesses", "house", ((ASKED,),)),
+    ("housing", "house_step", "house event", tuple((ASKED, event) for event in FULL_EVENTS + (
+        ("waive", 0), ("take", 0))) + ((house_step(ASKED, ("break", 0))[0], ("mend", 0, 1)),)),
+    ("housepapers", "asked_due", "house sample", ((ASKED, LONG_SAMPLE),)),
+    ("housepapers", "asked_paper", "house sample", ((ASKED, LONG_SAMPLE),)),
+    ("housepapers", "back_paper", "house tool number", ((ASKED, 0, 0),)),
+    ("replays", "replay_fault", "lab entries", ((HOUSE_LAB, LOG), (HOUSE_LAB, MISSED))),
+    ("replays", "replayed", "lab entries", ((HOUSE_LAB, LOG),)),
+    ("replays", "house_after", "lab entries", ((HOUSE_LAB, LOG),)),
+    ("questions", "log_questions", "lab entries", ((HOUSE_LAB, LOG),)),
+    ("judges", "judged", "lab entries papers", ((HOUSE_LAB, LOG, LOG_PAPERS), (HOUSE_LAB, LOG, [LOG_PAPERS]))),
+    ("judges", "log_of", "lab events", ((HOUSE_LAB, FULL_EVENTS),)),
+    ("judges", "papers_of", "lab entries", ((HOUSE_LAB, LOG),)),
+    ("blames", "kept_row", "lab entries", ((HOUSE_LAB, MISSED),)),
+    ("blames", "blame", "lab entries", ((HOUSE_LAB, MISSED),)),
+    ("loglines", "log_text", "lab entries", ((HOUSE_LAB, LOG),)),
+    ("loglines", "read_log", "text", ((LOG_TEXT,),)),
+    ("loglines", "log_text_fault", "text", ((LOG_TEXT,), (LOG_TEXT[:-1],))),
+    ("loglines", "mended_log", "text", ((LOG_TEXT[:-1],),)),
+    ("loglines", "recovered", "text", ((LOG_TEXT[:-1],),)),
+    ("tinytasks", "tiny_count", "shape", ((SHAPE,),)),
+    ("tinytasks", "tiny_task", "shape number", ((SHAPE, 3),)),
+    ("tinyholds", "statement_faults", "task", ((RUN_TASK,),)),
+    ("leasttasks", "tiny_number", "shape task", ((SHAPE, tiny_task(SHAPE, 3)), (SHAPE, RUN_TASK))),
+    ("leasttasks", "least_task", "shape wish first many", ((SHAPE, "never", 0, 12),)),
+    ("leasttasks", "is_least_task", "shape wish first number", ((SHAPE, "never", 0, 7),)),
+    ("leasttasks", "tiny_spread", "shape", ((SHAPE,),)),
+    ("slack", "changed", "task what many", ((RUN_TASK, WHAT, 2),)),
+    ("slack", "slack_of", "task what ticks", ((RUN_TASK, WHAT, 6),)),
+    ("slack", "edge", "task what ticks", ((RUN_TASK, WHAT, 5),)),
+    ("stairs", "corners", "task what other ticks", ((RUN_TASK, WHAT, ("step", 0, 1), 6),)),
 )
 
 
@@ -250,10 +326,11 @@ class CallsTest(unittest.TestCase):
         for _ in range(60):
             deep = (deep,)
         for module, name, words, rows in CALLS:
-            if words.split()[-1] in ("value", "pairs", "rows", "paper", "partition", "move", "lateness", "chart"):
+            if words.split()[-1] in ("value", "pairs", "rows", "paper", "partition", "move", "lateness", "chart",
+                                     "cover", "parting", "papers", "history", "jobs", "lot"):
                 call = getattr(importlib.import_module("washedarms." + module), name)
                 if len(rows) == 2:
-                    self.assertIn(type(call(*rows[0][:-1], deep)), (bool, tuple, int, str))
+                    self.assertIn(type(call(*rows[0][:-1], deep)), (bool, tuple, int, str, type(None)))
 
 
 class PackageTest(unittest.TestCase):

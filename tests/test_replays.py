@@ -5,7 +5,7 @@ import unittest
 
 from tests.examples import (
     CLEAN_SAMPLE, DIRTY_SAMPLE, EMPTY_SLOT, HOUSE_LAB, LEAST_LAB, LONG_SAMPLE, NEVER_RIGHT, NO_TUPLES, SHORT_SAMPLE,
-    STEP_LAB, changed, house_logs, literal_is_entry, literal_replay, near_values, other_logs, refused)
+    STEP_LAB, changed, house_logs, idle_logs, literal_is_entry, literal_replay, near_values, other_logs, refused)
 from washedarms.errors import BadEntry, BadLab, TooGreat
 from washedarms.houses import house_faults, house_new
 from washedarms.replays import house_after, replay_fault, replayed
@@ -127,7 +127,7 @@ class ReplayTest(unittest.TestCase):
         rng = random.Random(901)
         words = {}
         for lab, entries, _ in house_logs():
-            for other in other_logs(rng, lab, entries, 70):
+            for other in other_logs(rng, lab, entries, 60) + idle_logs(rng, lab, entries):
                 fault = self.check(lab, other)
                 if fault is not None:
                     key = other[fault[0]][0][0], fault[1]
