@@ -77,6 +77,7 @@ class LiveHouse:
         return tuple(words)
 
     def __contains__(self, number):
+        """Whether a sample with this NUMBER is in a slot."""
         return type(number) is int and any([number == told for told, slot in self._houses[-1][4]])
 
 
