@@ -119,6 +119,10 @@ class FaultsTest(unittest.TestCase):
         self.check(changed(FULL, (5,), 2 ** 60), None)
         self.check(changed(changed(FULL, (5,), 2 ** 60), (4, 1, 0), 2 ** 60 - 1), None)
         self.check(changed(changed(FULL, (5,), 2 ** 60), (4, 1, 0), 2 ** 60), 1)
+        # Fewer slots that go together otherwise.
+        three = FULL[:1] + (FULL[1][:3], (FULL[2][0][:3], FULL[2][1]), FULL[3][:3]) + FULL[4:]
+        self.check(three, 1)
+        self.check((STEP_LAB, (), ((), ((0, ()),)), (), (), 0), 1)
         # Samples that are done, that wait too long; a DUE that can't be kept.
         done = changed(changed(FULL, (2, 0, 2), (1, 0)), (3, 2), -1)
         self.check(done, 2)

@@ -318,10 +318,17 @@ class ErrorsTest(unittest.TestCase):
         refused(self, TooGreat, {"most": 20000}, house_step, asked, ("break", 2))
 
     def test_other_laboratories(self):
-        for lab in (DOC_LAB, LEAST_LAB, LUCK_LAB):
+        for lab in (DOC_LAB, LEAST_LAB, LUCK_LAB, changed(DOC_LAB, (3,), 1), changed(LEAST_LAB, (3,), 3)):
             house, told = after_events(lab, ("tick", ()), ("break", 0), ("mend", 0, 0))
             self.assertEqual(house, house_new(lab))
             self.assertEqual(told, [(), (), (("mended", 0),)])
+            # Each state of the LAB may be told, and no other one; each tool may break.
+            for tool in range(lab[2]):
+                out = house_step(house, ("break", tool))[0]
+                for state in range(len(lab[0])):
+                    self.assertEqual(house_step(out, ("mend", tool, state))[0][2][1][tool], (state, ()))
+                refused(self, BadState, {"value": len(lab[0])}, house_step, out, ("mend", tool, len(lab[0])))
+            refused(self, BadTool, {"value": lab[2]}, house_step, house, ("break", lab[2]))
 
 
 if __name__ == "__main__":

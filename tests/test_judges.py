@@ -169,6 +169,7 @@ class ErrorsTest(unittest.TestCase):
         for wrong in NO_TUPLES:
             refused(self, BadLab, {"word": "lab", "place": ()}, log_of, wrong, ())
             refused(self, BadEvent, {"word": None}, log_of, HOUSE_LAB, (("tick", ()), wrong))
+            refused(self, BadEvent, {"word": None}, log_of, HOUSE_LAB, wrong)
         refused(self, BadLateness, {"value": 3}, log_of, HOUSE_LAB, (("tick", 3),))
         refused(self, BadNumber, {"value": 1}, log_of, HOUSE_LAB, (("ask", SHORT_SAMPLE), ("waive", 1)))
         task = MANY_STANDINGS[1]

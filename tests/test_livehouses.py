@@ -193,6 +193,11 @@ class TwinTest(unittest.TestCase):
             again = done(lab, events[:12])
             again.undo(4)
             self.assertEqual(told(again), before)
+        new = LiveHouse(HOUSE_LAB)
+        twin = new.twin()
+        self.assertEqual(told(twin), told(new))
+        twin.do(SHORT)
+        self.assertEqual((new.past(), new.house), ((), house_new(HOUSE_LAB)))
 
 
 class InTest(unittest.TestCase):

@@ -201,6 +201,13 @@ class FaultTest(unittest.TestCase):
                 ("tick start 0 step", (0, 4)), ("tick start 1 step 0 end 0 0", None), ("tick 0", (0, 1)),
                 ("tick start 0 step 0 end 0 0 end 1 1 end 1 1", (0, 11)), ("tick wait", (0, 1))):
             self.check_entry(line + "/told", place)
+        # As many STARTS as there are tools, whatever arms there are.
+        lab = HOUSE_LAB[:3] + (1,) + HOUSE_LAB[4:]
+        self.check_entry("tick start 0 step 0 start 1 wash 0 end 0 0 end 1 1/told", None, lab)
+        self.check_entry("tick start 0 step 0 start 1 wash 0 start 1 wash 0/told", (0, 9), lab)
+        lab = STEP_LAB[:3] + (3,) + STEP_LAB[4:]
+        self.check_entry("tick start 0 step 0 start 1 step 0/told", (0, 5), lab)
+        self.check_entry("tick end 0 0 end 0 0/told", (0, 4), lab)
         self.check_entry("tick start 0 wash 0/told", (0, 3), STEP_LAB)
         self.check_entry("tick start 0 step 0/told", None, STEP_LAB)
         self.check_entry("tick start 0 step 0 start 1 step 1/told", (0, 5), STEP_LAB)

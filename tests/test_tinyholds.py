@@ -40,7 +40,10 @@ def changed_tasks(task):
     return found
 
 
-TASKS = SMALL_TASKS + EVEN_TASKS + X_TASKS + small_tasks(960, 4, 60, samples=1, steps=2, tools=3)
+# A wash and a step that can't take longer, and others that can.
+LONG_TASK = (((((1,), (None,))), ((((0,), (0,)), 1, 6), (((0,), (1,)), 5, 5)), 1, 1, 0), (
+    (((0, (0,), (), 4, 6), (0, (0,), (), 6, 6)), (None, 6)), (((0, (0,), (), 1, 5),), (None,))))
+TASKS = (LONG_TASK,) + SMALL_TASKS + EVEN_TASKS + X_TASKS + small_tasks(960, 4, 60, samples=1, steps=2, tools=3)
 
 
 class HoldTest(unittest.TestCase):

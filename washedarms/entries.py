@@ -30,10 +30,8 @@ def is_entry(lab, value):
     event, words = value
     if type(event) is not tuple or not event or type(event[0]) is not str or event[0] not in FORMS:
         return False
-    if type(words) is not tuple or not all([type(word) is tuple for word in words]):
-        return False
     form = FORMS[event[0]]
-    return form(lab, event, words)
+    return type(words) is tuple and form(lab, event, words)
 
 
 def is_number(value):

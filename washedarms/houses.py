@@ -69,7 +69,8 @@ def is_told(value, count):
 def goes_together(house):
     """Whether the things of a value that has their forms go together."""
     lab, slots, standing, dues, told, count = house
-    if not ascends(told) or not ascends([number for number, slot in told]):
+    # NUMBERS that ascend are unlike, and let TOLD ascend.
+    if not ascends([number for number, slot in told]):
         return False
     if sorted([slot for number, slot in told]) != [slot for slot in range(SLOTS) if slots[slot] != EMPTY]:
         return False
