@@ -144,6 +144,26 @@ class LedTest(unittest.TestCase):
             wide, X_TASKS[0], easier_cover(wide, X_TASKS[0]), live_plan(X_TASKS[0], start(X_TASKS[0])))))
 
 
+    def test_rows_of_equal_ranks(self):
+        # One STANDING beside two others, of which each has a tool out of use: it answers the MOVE of the least one.
+        step = (0, (0, 1), (), 1, 1)
+        task = (((((1,), (1,))), (), 2, 2, 0), (((step, step), (None, None)),))
+        idle, out, used = (0, ()), (0, ("out",)), (1, ())
+        none, one = ((0, 0),), ((1, 0),)
+        first, last = (none, (idle, out)), (none, (out, idle))
+        cover = (((none, (idle, idle)), first), ((none, (idle, idle)), last), ((one, (idle, used)), (one, (out, used))),
+                 ((one, (used, idle)), (one, (used, out))))
+        begin, other = ((0, "step", 0),), ((1, "step", 0),)
+        plan = ((first, begin, 2), (last, other, 2), ((one, (out, used)), other, 1), ((one, (used, out)), begin, 1))
+        plan = tuple(sorted(plan))
+        told = led_plan(task, task, tuple(sorted(cover)), plan)
+        self.assertEqual(dict((row[0], row[1:]) for row in told)[none, (idle, idle)], (begin, 2))
+        # The one of lesser RANK goes first.
+        slow = tuple((row[0], row[1], row[2] + (row[0] in (first, (one, (used, out))))) for row in plan)
+        told = led_plan(task, task, tuple(sorted(cover)), slow)
+        self.assertEqual(dict((row[0], row[1:]) for row in told)[none, (idle, idle)], (other, 2))
+
+
 class ErrorsTest(unittest.TestCase):
     def test_wrong_covers(self):
         rng = random.Random(744)

@@ -120,6 +120,18 @@ class WishTest(unittest.TestCase):
                     self.assertIs(is_least_task(shape, wish, first, number), bool(right) and number == right[0])
         self.assertGreater(len(found), 8)
 
+    def test_all_of_small_shapes(self):
+        for shape in WISH_SHAPES:
+            tasks = list(literal_tasks(shape))
+            for wish in WISHES:
+                right = [number for number, task in enumerate(tasks) if literal_wish(task, wish)]
+                found, first = [], 0
+                while first is not None and first < len(tasks):
+                    told = least_task(shape, wish, first, 200)
+                    found += [] if told is None else [told]
+                    first = None if told is None else told + 1
+                self.assertEqual(found, right)
+
     def test_each_wish(self):
         """For each WISH TINY TASKS of which it is so, and of which it is not."""
         rng = random.Random(973)

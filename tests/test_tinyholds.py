@@ -5,7 +5,7 @@ from unittest import mock
 
 from tests.examples import (
     DOC_LAB, EMPTY_TASK, EVEN_TASKS, HUGE_TASK, LUCK_TASK, MANY_STANDINGS, MANY_TRIPLES, NO_TUPLES, RUN_TASK,
-    SMALL_TASKS, STUCK_TASK, TASK, WINDOW_TASK, X_TASKS, changed, literal_soonest, refused, small_tasks)
+    SMALL_TASKS, STUCK_TASK, TASK, THREE_TASK, WINDOW_TASK, X_TASKS, changed, literal_soonest, refused, small_tasks)
 from washedarms import tinyholds
 from washedarms.errors import BadTask, TooGreat
 from washedarms.tinyholds import statement_faults
@@ -43,7 +43,8 @@ def changed_tasks(task):
 # A wash and a step that can't take longer, and others that can.
 LONG_TASK = (((((1,), (None,))), ((((0,), (0,)), 1, 6), (((0,), (1,)), 5, 5)), 1, 1, 0), (
     (((0, (0,), (), 4, 6), (0, (0,), (), 6, 6)), (None, 6)), (((0, (0,), (), 1, 5),), (None,))))
-TASKS = (LONG_TASK,) + SMALL_TASKS + EVEN_TASKS + X_TASKS + small_tasks(960, 4, 60, samples=1, steps=2, tools=3)
+TASKS = (LONG_TASK, changed(THREE_TASK, (0, 3), 3), changed(THREE_TASK, (0, 3), 1))
+TASKS += SMALL_TASKS + EVEN_TASKS + X_TASKS + small_tasks(960, 4, 60, samples=1, steps=2, tools=3)
 
 
 class HoldTest(unittest.TestCase):

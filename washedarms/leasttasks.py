@@ -15,14 +15,14 @@ def tiny_number(shape, task):
     """The number of a TINY TASK of this SHAPE, None of another TASK."""
     need_shape(shape)
     need_task(task)
-    rows = choices_of(shape)
-    if len(task[0][1]) != 1 or len(picks_of(task)) != len(rows):
+    if len(task[0][1]) != 1:
         return None
     number = 0
-    for pick, choices in zip(picks_of(task), rows):
+    for pick, choices in zip(picks_of(task), choices_of(shape)):
         if pick not in choices:
             return None
         number = number * len(choices) + choices.index(pick)
+    # A TASK of another SHAPE may have its choices among these: it isn't what comes of them.
     return number if task_here(shape, number) == task else None
 
 
